@@ -1,0 +1,129 @@
+"""The form of the package: where the interface stands, and the plain rules of its language."""
+
+import ast
+import builtins
+import importlib
+import inspect
+import pathlib
+import unittest
+
+PACKAGE = pathlib.Path(__file__).resolve().parent.parent / "firstthere"
+
+INTERFACE = {
+    "deputies": {
+        "chain": "deputies person", "holder": "deputies gone person", "holders": "deputies gone",
+        "held_by": "deputies gone person", "loads": "deputies gone"},
+    "rings": {
+        "rounds": "deputies", "to_office": "deputies", "chain_lengths": "deputies", "steps_to_end": "deputies",
+        "behind": "deputies person"},
+    "leaving": {
+        "in_time": "deputies order", "handings": "deputies order person", "handing_count": "deputies order",
+        "leaving": "deputies gone person"},
+    "orders": {
+        "orders_with": "deputies told", "order_at": "deputies told number", "number_in": "deputies told order",
+        "handing_orders": "deputies"},
+}
+
+LIBRARY = {
+    "heapq": {"heappush", "heappop", "heapify", "heapreplace", "heappushpop"},
+    "math": {"gcd", "lcm", "isqrt", "comb", "perm", "factorial"},
+    "itertools": {
+        "product", "combinations", "permutations", "chain", "accumulate", "pairwise", "islice", "zip_longest"},
+    "collections": {"defaultdict", "deque"},
+}
+
+BUILTINS = set(
+    "len range enumerate zip min max sum abs sorted reversed int str bool list tuple dict set isinstance ord repr "
+    "any all divmod pow ValueError".split())
+
+NOT_USED = (ast.AsyncFunctionDef, ast.AsyncFor, ast.AsyncWith, ast.Await, ast.Div)
+
+
+def sources():
+    return sorted(PACKAGE.rglob("*.py"))
+
+
+def own_names(tree):
+    """All names that a file gives a meaning to."""
+    names = set()
+    for node in ast.walk(tree):
+        if isinstance(node, (ast.FunctionDef, ast.ClassDef)):
+            names.add(node.name)
+        elif isinstance(node, ast.arg):
+            names.add(node.arg)
+        elif isinstance(node, ast.Name) and isinstance(node.ctx, ast.Store):
+            names.add(node.id)
+        elif isinstance(node, ast.alias):
+            names.add(node.name)
+    return names
+
+
+class Interface(unittest.TestCase):
+    def test_each_function_stands_in_its_file(self):
+        for name, functions in INTERFACE.items():
+            module = importlib.import_module("firstthere." + name)
+            for function, parameters in functions.items():
+                with self.subTest(file=name, function=function):
+                    found = getattr(module, function)
+                    self.assertEqual(found.__module__, "firstthere." + name)
+                    self.assertEqual(list(inspect.signature(found).parameters), parameters.split())
+
+
+class Language(unittest.TestCase):
+    def test_files(self):
+        for path in PACKAGE.rglob("*"):
+            if "__pycache__" not in path.parts:
+                self.assertTrue(path.suffix == ".py" or path.is_dir(), path)
+
+    def test_sizes_and_characters(self):
+        for path in sources():
+            text = path.read_bytes().decode("ascii")
+            lines = text.split("\n")
+            with self.subTest(file=path.name):
+                self.assertLessEqual(len(lines), 400)
+                self.assertLessEqual(max(map(len, lines)), 120)
+                self.assertTrue(all(sign == "\n" or " " <= sign <= "~" for sign in text))
+
+    def test_sizes_of_functions(self):
+        for path in sources():
+            for node in ast.walk(ast.parse(path.read_text())):
+                if isinstance(node, ast.FunctionDef):
+                    with self.subTest(file=path.name, function=node.name):
+                        self.assertLessEqual(node.end_lineno - node.lineno + 1, 40)
+
+    def test_imports(self):
+        for path in sources():
+            for node in ast.walk(ast.parse(path.read_text())):
+                with self.subTest(file=path.name):
+                    self.assertNotIsInstance(node, ast.Import)
+                if isinstance(node, ast.ImportFrom):
+                    names = {each.name for each in node.names}
+                    with self.subTest(file=path.name, module=node.module):
+                        self.assertFalse([each for each in node.names if each.asname])
+                        if node.module in LIBRARY:
+                            self.assertLessEqual(names, LIBRARY[node.module])
+                        else:
+                            home = PACKAGE.parent / (node.module.replace(".", "/") + ".py")
+                            self.assertLessEqual(names, own_names(ast.parse(home.read_text())))
+
+    def test_names(self):
+        for path in sources():
+            tree = ast.parse(path.read_text())
+            own = own_names(tree)
+            with self.subTest(file=path.name):
+                self.assertFalse(own & set(dir(builtins)))
+            for node in ast.walk(tree):
+                if isinstance(node, ast.Name) and isinstance(node.ctx, ast.Load):
+                    with self.subTest(file=path.name, name=node.id):
+                        self.assertIn(node.id, own | BUILTINS)
+
+    def test_statements(self):
+        for path in sources():
+            for node in ast.walk(ast.parse(path.read_text())):
+                with self.subTest(file=path.name, line=getattr(node, "lineno", None)):
+                    self.assertNotIsInstance(node, NOT_USED)
+                    self.assertFalse(isinstance(node, ast.Constant) and isinstance(node.value, float))
+
+
+if __name__ == "__main__":
+    unittest.main()
