@@ -1,9 +1,13 @@
 """What values are allowed: an `is_` or `are_` function asks, a `check_` function raises the error."""
 
-from firstthere.errors import BadDeputies, BadLot, BadOrder, BadPerson, BadTold
+from firstthere.errors import (
+    BadCosts, BadCount, BadDeputies, BadLot, BadOrder, BadPerson, BadSights, BadSize, BadTold, BadWeights, TooMany)
 
 OFFICE = -1
 MOST_PEOPLE = 6
+MOST_WEIGHT = 60
+MOST_COST = 1000
+MOST_SIGHTS = 8
 
 
 def is_plain_integer(value):
@@ -11,12 +15,26 @@ def is_plain_integer(value):
     return isinstance(value, int) and not isinstance(value, bool)
 
 
+def is_integer_from(value, least, most):
+    return is_plain_integer(value) and least <= value <= most
+
+
+def are_integers_from(value, many, least, most):
+    if not isinstance(value, tuple) or len(value) != many:
+        return False
+    return all(is_integer_from(each, least, most) for each in value)
+
+
+def is_pair(value):
+    return isinstance(value, tuple) and len(value) == 2
+
+
 def is_person(value, size):
-    return is_plain_integer(value) and 0 <= value < size
+    return is_integer_from(value, 0, size - 1)
 
 
 def is_holder(value, size):
-    return is_plain_integer(value) and OFFICE <= value < size
+    return is_integer_from(value, OFFICE, size - 1)
 
 
 def is_deputies(value):
@@ -45,9 +63,15 @@ def are_holders_in_time(value, size):
 
 
 def is_told_pair(value, size):
-    if not isinstance(value, tuple) or len(value) != 2:
-        return False
-    return is_person(value[0], size) and are_holders_in_time(value[1], size)
+    return is_pair(value) and is_person(value[0], size) and are_holders_in_time(value[1], size)
+
+
+def is_integer_and_lot(value, size):
+    return is_pair(value) and is_plain_integer(value[0]) and is_lot(value[1], size)
+
+
+def is_lot_and_integers(value, size, many, least, most):
+    return is_pair(value) and is_lot(value[0], size) and are_integers_from(value[1], many, least, most)
 
 
 def check_deputies(value):
@@ -83,3 +107,52 @@ def check_told(value, size):
         if not is_told_pair(value[index], size) or value[index][0] <= before:
             raise BadTold(index)
         before = value[index][0]
+
+
+def check_count(value, least, most):
+    if not is_integer_from(value, least, most):
+        raise BadCount(f"the number is an integer from {least} to {most}")
+
+
+def check_weights(value, size):
+    if not are_integers_from(value, size, 1, MOST_WEIGHT):
+        raise BadWeights("weights are a tuple of integers from 1 to 60, one for each person")
+
+
+def check_weights_alone(value):
+    """Weights without deputies, which would tell of how many people they are."""
+    if not isinstance(value, tuple) or not 1 <= len(value) <= MOST_PEOPLE:
+        raise BadWeights("weights are a tuple of 1 to 6 integers")
+    check_weights(value, len(value))
+
+
+def check_costs(value, size):
+    if not are_integers_from(value, size, 0, MOST_COST):
+        raise BadCosts("costs are a tuple of integers from 0 to 1000, one for each person")
+
+
+def check_size(value):
+    if not is_integer_from(value, 1, MOST_PEOPLE):
+        raise BadSize("a size is an integer from 1 to 6")
+
+
+def check_at_most(size, most):
+    """To be asked when all arguments are known to be allowed: this error comes after all others."""
+    if size > most:
+        raise TooMany(most)
+
+
+def check_each_sight(value, size, many, least, most):
+    if not isinstance(value, tuple) or not 1 <= len(value) <= MOST_SIGHTS:
+        raise BadSights(None)
+    for index in range(len(value)):
+        if not is_lot_and_integers(value[index], size, many, least, most):
+            raise BadSights(index)
+
+
+def check_sights(value, size):
+    check_each_sight(value, size, size, OFFICE, size - 1)
+
+
+def check_load_sights(value, size):
+    check_each_sight(value, size, size + 1, 0, size)

@@ -16,6 +16,16 @@ def chain_of(deputies, person):
     return tuple(met)
 
 
+def ahead_of(deputies, person, other):
+    """Those ahead of the other one, or of the office, on the person's chain; None if the other one is not on it."""
+    met = chain_of(deputies, person)
+    if other == OFFICE:
+        return met
+    if other not in met:
+        return None
+    return met[:met.index(other)]
+
+
 def holder_of(deputies, gone, person):
     for one in chain_of(deputies, person):
         if one not in gone:
@@ -29,6 +39,12 @@ def holders_of(deputies, gone):
 
 def duties_of(deputies, gone, person):
     return tuple(duty for duty in range(len(deputies)) if holder_of(deputies, gone, duty) == person)
+
+
+def loads_of(deputies, gone):
+    held = holders_of(deputies, gone)
+    by_people = tuple(held.count(person) for person in range(len(deputies)))
+    return (*by_people, held.count(OFFICE))
 
 
 def chain(deputies, person):
@@ -65,6 +81,4 @@ def loads(deputies, gone):
     """How many duties 0, 1, .. and, last, the office hold."""
     check_deputies(deputies)
     check_lot(gone, len(deputies))
-    held = holders_of(deputies, gone)
-    by_people = tuple(held.count(person) for person in range(len(deputies)))
-    return (*by_people, held.count(OFFICE))
+    return loads_of(deputies, gone)

@@ -1,8 +1,12 @@
-"""What the tests share: deputies to try, values that are not allowed, and a second way to hand duties on."""
+"""What the tests share: deputies to try, a second way to hand duties on, and how a test asks."""
 
 import copy
+import fractions
+import functools
 import itertools
 import unittest
+
+from tests.wrong import ODD_VALUES
 
 OFFICE = -1
 
@@ -80,45 +84,53 @@ def handed_on(deputies, order):
     return tuple(found)
 
 
+@functools.lru_cache(maxsize=None)
+def held_when(deputies, lot):
+    """The holders when the lot has left."""
+    return handed_on(deputies, lot)[-1]
+
+
+def loads_when(deputies, lot):
+    """The loads of 0, 1, .. and, last, of the office when the lot has left."""
+    held = held_when(deputies, lot)
+    return tuple(held.count(one) for one in (*range(len(deputies)), OFFICE))
+
+
+def all_but(size, *people):
+    return tuple(one for one in range(size) if one not in people)
+
+
+def can_come_to(deputies, duty, person):
+    """Whether the person is on the duty's chain: whether it holds the duty when all others have left."""
+    return held_when(deputies, all_but(len(deputies), person))[duty] == person
+
+
+@functools.lru_cache(maxsize=None)
+def rows_in_time(deputies):
+    """For each whole order, the holders at first and behind each leaving."""
+    return [(order, handed_on(deputies, order)) for order in whole_orders(len(deputies))]
+
+
+def as_ratio(top, bottom=1):
+    number = fractions.Fraction(top, bottom)
+    return (number.numerator, number.denominator)
+
+
 def without_repeats(held):
     """The row without a thing that is like the one before."""
     return tuple(one for place, one in enumerate(held) if place == 0 or held[place - 1] != one)
 
 
-# An integer, a string, a boolean, None, a tuple, a list, a dict, and those of such.
-ODD_VALUES = (
-    "", "0", "01", True, False, None, [], [0], [0, 1], ["0"], {}, {0: 1}, {"0": [None]},
-    ("0",), (None,), (True,), (False,), ((),), ((0,),), ([0],), ({},), (0, True), (False, 1), (0, "1"), (0, None),
-)
-
-NO_DEPUTIES = ODD_VALUES + (
-    (), 0, 1, -1, (0,), (1,), (-2,), (0, -1), (-1, 1), (2, -1), (1, -2), (1, 2, 3), (True, -1), (1, False), [1, -1],
-    (1, -1, "0"), (1, -1, (0,)), {0: 1, 1: -1}, (-1, -1, -1, -1, -1, -1, -1), (1, 2, 3, 4, 5, 6, -1),
-)
-
-# The next ones are wrong for three people.
-NO_ORDERS = ODD_VALUES + (
-    0, 1, -1, (-1,), (3,), (0, 0), (1, 0, 1), (0, -1), (0, 1, 2, 3), (1, 0, -1), [1, 0], [0, 1, 2], (2, 1, False),
-)
-NO_LOTS = NO_ORDERS + ((1, 0), (0, 2, 1), (2, 1, 0))
-NO_HOLDERS = ODD_VALUES + ((), (0,), (1, 0), -2, 3, 4, 100, -100)
-NO_PEOPLE = NO_HOLDERS + (-1,)
-NO_WHOLE_ORDERS = NO_ORDERS + ((), (0,), (2, 1))
-
-NO_TOLD = tuple((value, None) for value in ODD_VALUES if not isinstance(value, tuple)) + (
-    (0, None), (-1, None), ([(0, (0,))], None), ({0: (0,)}, None), ([], None),
-    ((0,), 0), (("0",), 0), ((None,), 0), ((True,), 0), (([],), 0), (({},), 0), (((),), 0),
-    ((0, (0,)), 0), (((0,),), 0), (((0, (0,), 1),), 0), (([0, (0,)],), 0), (("00",), 0),
-    (((-1, (0,)),), 0), (((3, (0,)),), 0), (((True, (0,)),), 0), ((("0", (0,)),), 0), (((None, (0,)),), 0),
-    (((0, ()),), 0), (((0, 0),), 0), (((0, "0"),), 0), (((0, [0]),), 0), (((0, {0: 0}),), 0), (((0, None),), 0),
-    (((0, (0, 0)),), 0), (((0, (-1, 0)),), 0), (((0, (0, -1, 1)),), 0), (((0, (0, -1, -1)),), 0),
-    (((0, (0, 3)),), 0), (((0, (0, -2)),), 0), (((0, (False, 1)),), 0), (((0, (0, True)),), 0),
-    (((0, ((0,),)),), 0), (((0, (0, [])),), 0), (((0, (0, {})),), 0), (((0, (0, "1")),), 0),
-    (((0, (0,)), (0, (0,))), 1), (((1, (1,)), (0, (0,))), 1), (((0, (0,)), None), 1), (((0, (0,)), (1, ())), 1),
-    (((1, (1,)), (0, (0,)), None), 1), (((1, ()), (0, (0,)), None), 0),
-    (((0, (0,)), (2, (2,)), (1, (1,))), 2), (((0, (0,)), (1, (1,)), (1, (1,))), 2),
-    (((0, (0,)), (1, (1,)), (2, (2,)), (3, (0,))), 3), (((0, (0,)), (1, (1,)), (2, (2,)), (2, (2,))), 3),
-)
+def near(value):
+    """Values like this one: a thing changed or of another kind, a row in another order, longer or shorter."""
+    if not isinstance(value, tuple):
+        others = [value, str(value), True, False, None, (), [value], (value,), {"0": value}]
+        return others + ([value - 1, value + 1, -value] if isinstance(value, int) else [0])
+    rows = [
+        list(value), dict(enumerate(value)), str(value), value[::-1], value[:-1], value[1:], value * 2, (value,),
+        (*value, 0), (*value, -1), (*value, None), (0, *value), None, len(value)]
+    changed = [(*value[:at], other, *value[at + 1:]) for at in range(len(value)) for other in near(value[at])]
+    return rows + changed
 
 
 class Case(unittest.TestCase):
@@ -136,3 +148,11 @@ class Case(unittest.TestCase):
             self.assertIs(caught.exception.__class__, error)
             self.assertEqual(repr(vars(caught.exception)), repr(fields))
             self.assertEqual(repr(values), repr(before))
+
+    def shows(self, call, values, good, others=()):
+        """The call returns True for the good ones alone: of these, of values near them, of odd and of other ones."""
+        texts = {repr(one) for one in good}
+        few = [*good[:3], *good[-1:]]
+        with self.subTest(call=call.__name__, values=values):
+            for value in (*good, *others, *ODD_VALUES, 0, 1, -1, (), *(like for one in few for like in near(one))):
+                self.assertIs(call(*values, value), repr(value) in texts, value)

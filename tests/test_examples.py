@@ -24,6 +24,36 @@ EXAMPLES = {
 >>> [orders_with((1, -1, 0), ((2, (2, 0, 1, -1)),)), order_at((1, -1), ((0, (0, 1, -1)),), 0), number_in((1, -1), (), (1, 0)), handing_orders((1, -1))]
 [1, (0, 1), 1, (0, 0, 1, 1)]
 """,
+    "chances": """
+>>> from firstthere.chances import ever_chance, handing_chances, hold_chance, mean_handings, mean_loads, together_chance
+>>> [ever_chance((1, -1, 0), 2, 1), handing_chances((1, -1, 0), 2), mean_handings((1, -1)), hold_chance((1, -1, 0), 1, 2, 0), mean_loads((1, -1), 1), together_chance((1, -1), 1, 0, 1)]
+[(1, 3), ((0, 1), (1, 3), (1, 2), (1, 6)), (5, 2), (1, 3), ((1, 2), (1, 1), (1, 2)), (1, 2)]
+""",
+    "weights": """
+>>> from firstthere.weights import ahead_chance, ever_chance_by, hold_chances_by, last_chances, lot_chance, mean_handings_by, order_chance
+>>> [order_chance((1, 2), (1, 0)), ahead_chance((1, 2), (1,), 0), lot_chance((1, 2), (0,)), last_chances((1, 2)), ever_chance_by((1, -1), (1, 2), 0, 1), hold_chances_by((1, -1), (1, 2), 1, 0), mean_handings_by((1, -1), (1, 2))]
+[(2, 3), (2, 3), (1, 3), ((2, 3), (1, 3)), (1, 3), ((2, 3), (1, 3), (0, 1)), (7, 3)]
+""",
+    "needed": """
+>>> from firstthere.needed import fewest_load, greatest_load, least_gone, load_lots, shows_greatest_load
+>>> [least_gone((1, -1, 0), 2, 1), fewest_load((1, -1, 0), 1, 3), fewest_load((1, -1, 0), 2, 2), load_lots((1, -1, 0), 1, 2), greatest_load((1, -1, 0), 2), shows_greatest_load((1, -1, 0), 1, (2, (0,)))]
+[(0, 2), (0, 2), None, 2, (3, (0, 2)), True]
+""",
+    "keeping": """
+>>> from firstthere.keeping import apart_chains, keeper_count, keepers, safe_count, shows_apart_chains
+>>> [keepers((1, 0, 1, -1)), keeper_count((1, 0, 1, -1)), safe_count((1, 0, 1, -1)), shows_apart_chains((1, 0, 1, -1), (1, 3)), len(apart_chains((1, 0, 1, -1)))]
+[(0, 3), 2, 6, True, 2]
+""",
+    "costs": """
+>>> from firstthere.costs import cheap_keepers, shows_keeper_paper
+>>> [cheap_keepers((1, 0, 1), (5, 3, 1)), shows_keeper_paper((1, 0, 1), (5, 3, 1), ((3, 1), (0, 1), (0, 1)))]
+[(3, (1,)), True]
+""",
+    "sights": """
+>>> from firstthere.sights import first_against, fits, fitting, fitting_loads, next_seen, sure_deputies
+>>> [fitting(2, (((0,), (1, 1)),)), fits((1, -1), (((0,), (1, 1)),)), sure_deputies(2, (((0,), (1, 1)),)), next_seen(2, (((0,), (1, 1)),), (1,)), first_against(2, (((0,), (1, 1)), ((0,), (-1, 1)))), fitting_loads(2, (((0, 1), (0, 0, 2)),))]
+[((1, -1), (1, 0)), True, (1, None), ((0, -1), (0, 0)), 2, ((-1, -1), (-1, 0), (1, -1), (1, 0))]
+""",
 }
 
 
@@ -34,7 +64,7 @@ class Examples(unittest.TestCase):
                 test = doctest.DocTestParser().get_doctest(text, {}, name, None, 0)
                 told = []
                 failed, tried = doctest.DocTestRunner().run(test, out=told.append)
-                self.assertEqual((failed, tried), (0, 2), "".join(told))
+                self.assertEqual((failed, tried), (0, text.count(">>>")), "".join(told))
 
 
 if __name__ == "__main__":

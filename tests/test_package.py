@@ -22,6 +22,27 @@ INTERFACE = {
     "orders": {
         "orders_with": "deputies told", "order_at": "deputies told number", "number_in": "deputies told order",
         "handing_orders": "deputies"},
+    "chances": {
+        "ever_chance": "deputies person other", "handing_chances": "deputies person", "mean_handings": "deputies",
+        "hold_chance": "deputies many person other", "mean_loads": "deputies many",
+        "together_chance": "deputies many one other"},
+    "weights": {
+        "order_chance": "weights order", "ahead_chance": "weights lot person", "last_chances": "weights",
+        "lot_chance": "weights lot", "ever_chance_by": "deputies weights person other",
+        "hold_chances_by": "deputies weights many person", "mean_handings_by": "deputies weights"},
+    "needed": {
+        "least_gone": "deputies person other", "fewest_load": "deputies person many",
+        "shows_fewest_load": "deputies person many value", "load_lots": "deputies person many",
+        "greatest_load": "deputies many", "shows_greatest_load": "deputies many value"},
+    "keeping": {
+        "keepers": "deputies", "shows_keepers": "deputies value", "keeper_count": "deputies",
+        "apart_chains": "deputies", "shows_apart_chains": "deputies value", "safe_count": "deputies"},
+    "costs": {
+        "cheap_keepers": "deputies costs", "shows_cheap_keepers": "deputies costs value",
+        "keeper_paper": "deputies costs", "shows_keeper_paper": "deputies costs value"},
+    "sights": {
+        "fitting": "size sights", "fits": "deputies sights", "sure_deputies": "size sights",
+        "next_seen": "size sights gone", "first_against": "size sights", "fitting_loads": "size sights"},
 }
 
 LIBRARY = {

@@ -1,0 +1,31 @@
+"""Ratios: pairs (top, bottom) of integers without a common divisor greater than 1, the bottom positive.
+
+This file is for the package.
+"""
+
+from math import gcd
+
+from firstthere.checks import is_pair, is_plain_integer
+
+NONE_AT_ALL = (0, 1)
+SURE = (1, 1)
+
+
+def ratio(top, bottom):
+    """The ratio of an integer to a positive one."""
+    common = gcd(top, bottom)
+    return (top // common, bottom // common)
+
+
+def sum_of(ratios):
+    top = 0
+    bottom = 1
+    for each_top, each_bottom in ratios:
+        top, bottom = ratio(top * each_bottom + each_top * bottom, bottom * each_bottom)
+    return (top, bottom)
+
+
+def is_ratio(value):
+    if not is_pair(value) or not is_plain_integer(value[0]) or not is_plain_integer(value[1]):
+        return False
+    return value[1] > 0 and gcd(value[0], value[1]) == 1

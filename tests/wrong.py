@@ -1,0 +1,84 @@
+"""Values that are not allowed, for the tests of errors."""
+
+# An integer, a string, a boolean, None, a tuple, a list, a dict, and those of such.
+ODD_VALUES = (
+    "", "0", "01", True, False, None, [], [0], [0, 1], ["0"], {}, {0: 1}, {"0": [None]},
+    ("0",), (None,), (True,), (False,), ((),), ((0,),), ([0],), ({},), (0, True), (False, 1), (0, "1"), (0, None),
+)
+
+NO_DEPUTIES = ODD_VALUES + (
+    (), 0, 1, -1, (0,), (1,), (-2,), (0, -1), (-1, 1), (2, -1), (1, -2), (1, 2, 3), (True, -1), (1, False), [1, -1],
+    (1, -1, "0"), (1, -1, (0,)), {0: 1, 1: -1}, (-1, -1, -1, -1, -1, -1, -1), (1, 2, 3, 4, 5, 6, -1),
+)
+
+NO_COUNTS_AT_ALL = ODD_VALUES + ((1,), [1], {1: 1}, -1, -2, 61, 1000, "2", (), (2, 1))
+NO_COUNTS_TO_6 = NO_COUNTS_AT_ALL + (7, 8)
+NO_SIZES = NO_COUNTS_AT_ALL + (0, 7, 8, (1, 0, -1))
+NO_WEIGHTS_ALONE = ODD_VALUES + (
+    (), 0, 1, 60, (0,), (-1,), (61,), (1, 0), (0, 1), (1, -1), (60, 61), (1, 1000), (1, True), (True, 1), [1, 2], [1],
+    (1, "1"), ("1", 1), (1, None), (1, (1,)), (1, [1]), {0: 1, 1: 2}, "12", (1, 1, 1, 1, 1, 0), (1,) * 7, (60,) * 8,
+)
+
+# The next ones are wrong for three people.
+NO_COUNTS_TO_3 = NO_COUNTS_TO_6 + (4, 5, 6)
+NO_WEIGHTS = NO_WEIGHTS_ALONE + (
+    (1,), (1, 2), (1, 2, 3, 4), (0, 1, 2), (1, 0, 2), (1, 2, 0), (61, 1, 2), (1, 2, 61), (1, -5, 2), (1, 2, True),
+    (True, 2, 3), (1, "2", 3), (1, None, 3), (1, 2, (3,)), [1, 2, 3], {0: 1, 1: 2, 2: 3}, "123", (1, 2, 3, 0),
+)
+NO_COSTS = ODD_VALUES + (
+    (), 0, 1, (0,), (1, 2), (0, 0, 0, 0), (-1, 0, 0), (0, -1, 0), (0, 0, -1), (1001, 0, 0), (0, 0, 1001), (0, 5000, 0),
+    (0, 1, True), (False, 1, 2), (0, "1", 2), (0, None, 2), (0, 1, (2,)), (0, [1], 2), (0, {}, 2), [0, 1, 2],
+    {0: 0, 1: 1, 2: 2}, "012",
+)
+NO_ORDERS = ODD_VALUES + (
+    0, 1, -1, (-1,), (3,), (0, 0), (1, 0, 1), (0, -1), (0, 1, 2, 3), (1, 0, -1), [1, 0], [0, 1, 2], (2, 1, False),
+)
+NO_LOTS = NO_ORDERS + ((1, 0), (0, 2, 1), (2, 1, 0))
+NO_HOLDERS = ODD_VALUES + ((), (0,), (1, 0), -2, 3, 4, 100, -100)
+NO_PEOPLE = NO_HOLDERS + (-1,)
+NO_WHOLE_ORDERS = NO_ORDERS + ((), (0,), (2, 1))
+
+NO_TOLD = tuple((value, None) for value in ODD_VALUES if not isinstance(value, tuple)) + (
+    (0, None), (-1, None), ([(0, (0,))], None), ({0: (0,)}, None), ([], None),
+    ((0,), 0), (("0",), 0), ((None,), 0), ((True,), 0), (([],), 0), (({},), 0), (((),), 0),
+    ((0, (0,)), 0), (((0,),), 0), (((0, (0,), 1),), 0), (([0, (0,)],), 0), (("00",), 0),
+    (((-1, (0,)),), 0), (((3, (0,)),), 0), (((True, (0,)),), 0), ((("0", (0,)),), 0), (((None, (0,)),), 0),
+    (((0, ()),), 0), (((0, 0),), 0), (((0, "0"),), 0), (((0, [0]),), 0), (((0, {0: 0}),), 0), (((0, None),), 0),
+    (((0, (0, 0)),), 0), (((0, (-1, 0)),), 0), (((0, (0, -1, 1)),), 0), (((0, (0, -1, -1)),), 0),
+    (((0, (0, 3)),), 0), (((0, (0, -2)),), 0), (((0, (False, 1)),), 0), (((0, (0, True)),), 0),
+    (((0, ((0,),)),), 0), (((0, (0, [])),), 0), (((0, (0, {})),), 0), (((0, (0, "1")),), 0),
+    (((0, (0,)), (0, (0,))), 1), (((1, (1,)), (0, (0,))), 1), (((0, (0,)), None), 1), (((0, (0,)), (1, ())), 1),
+    (((1, (1,)), (0, (0,)), None), 1), (((1, ()), (0, (0,)), None), 0),
+    (((0, (0,)), (2, (2,)), (1, (1,))), 2), (((0, (0,)), (1, (1,)), (1, (1,))), 2),
+    (((0, (0,)), (1, (1,)), (2, (2,)), (3, (0,))), 3), (((0, (0,)), (1, (1,)), (2, (2,)), (2, (2,))), 3),
+)
+
+
+# A row of three people's holders, and one of their loads and the office's, with rows that are wrong instead.
+HELD = (1, 1, 2)
+NO_HELD = ODD_VALUES + (
+    (), 0, 1, (0,), (0, 1), (0, 1, 2, -1), (0, 1, 3), (3, 1, 2), (0, -2, 2), (0, 1, True), (False, 1, 2), (0, "1", 2),
+    (0, None, 2), (0, 1, (2,)), (0, [1], 2), (0, {}, 2), [0, 1, 2], [1, 1, 2], {0: 0, 1: 1, 2: 2}, "012",
+)
+LOADS = (0, 2, 1, 0)
+NO_LOADS = ODD_VALUES + (
+    (), 0, 1, (0,), (0, 2, 1), (0, 2, 1, 0, 0), (0, 1, 2), (-1, 2, 1, 0), (0, 2, 1, -1), (4, 0, 0, 0), (0, 0, 0, 4),
+    (0, 2, True, 0), (False, 2, 1, 0), (0, "2", 1, 0), (0, 2, None, 0), (0, 2, 1, (0,)), (0, [2], 1, 0), (0, {}, 1, 0),
+    [0, 2, 1, 0], {0: 0, 1: 2, 2: 1, 3: 0}, "0210",
+)
+
+
+def no_sights(row, no_rows):
+    """What is no sights of three people, each with the index that the error tells."""
+    seen = ((0,), row)
+    no_tuples = [value for value in ODD_VALUES if not isinstance(value, tuple)]
+    found = [(value, None) for value in (*no_tuples, (), 0, -1, [seen], {0: seen}, (seen,) * 9, (None,) * 9)]
+    no_pairs = [*ODD_VALUES, (), 0, seen[:1], seen * 2, (*seen, 0), list(seen), seen[::-1], {0: (0,), 1: row}, "01"]
+    wrong = no_pairs + [(lot, row) for lot in NO_LOTS] + [((0,), other) for other in no_rows]
+    for one in wrong:
+        found += [((one,), 0), ((seen, one), 1), ((seen, seen, one, one, seen), 2), ((seen,) * 7 + (one,), 7)]
+    return tuple(found)
+
+
+NO_SIGHTS = no_sights(HELD, NO_HELD)
+NO_LOAD_SIGHTS = no_sights(LOADS, NO_LOADS)
