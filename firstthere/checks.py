@@ -1,13 +1,17 @@
 """What values are allowed: an `is_` or `are_` function asks, a `check_` function raises the error."""
 
 from firstthere.errors import (
-    BadCosts, BadCount, BadDeputies, BadLot, BadOrder, BadPerson, BadSights, BadSize, BadTold, BadWeights, TooMany)
+    BadCosts, BadCount, BadDeputies, BadLot, BadLots, BadOrder, BadPerson, BadSights, BadSize, BadTable, BadTold,
+    BadWanted, BadWeights, TooMany)
 
 OFFICE = -1
 MOST_PEOPLE = 6
 MOST_WEIGHT = 60
 MOST_COST = 1000
 MOST_SIGHTS = 8
+MOST_LOTS = 30
+MOST_WORTH = 100
+MOST_COUNTED = 60
 
 
 def is_plain_integer(value):
@@ -43,6 +47,10 @@ def is_deputies(value):
     return all(is_holder(value[person], len(value)) and value[person] != person for person in range(len(value)))
 
 
+def are_deputies_of(value, size):
+    return is_deputies(value) and len(value) == size
+
+
 def are_unlike_holders(value, size):
     # The kinds come first: only integers are sure to be taken by a set.
     if not isinstance(value, tuple) or not all(is_holder(each, size) for each in value):
@@ -52,6 +60,10 @@ def are_unlike_holders(value, size):
 
 def is_order(value, size):
     return are_unlike_holders(value, size) and OFFICE not in value
+
+
+def is_whole_order(value, size):
+    return is_order(value, size) and len(value) == size
 
 
 def is_lot(value, size):
@@ -66,8 +78,32 @@ def is_told_pair(value, size):
     return is_pair(value) and is_person(value[0], size) and are_holders_in_time(value[1], size)
 
 
+def is_wanted_pair(value, size):
+    return is_pair(value) and is_person(value[0], size) and is_holder(value[1], size)
+
+
+def is_behind_others(value, index):
+    """Whether the pair's person is behind that of the pair before, which is known to be a pair."""
+    return index == 0 or value[index - 1][0] < value[index][0]
+
+
+def are_rows_of_worths(value, size):
+    """For each person a row of integers: those of 0, 1, .. and, last, of nobody or the office."""
+    if not isinstance(value, tuple) or len(value) != size:
+        return False
+    return all(are_integers_from(row, size + 1, -MOST_WORTH, MOST_WORTH) for row in value)
+
+
 def is_integer_and_lot(value, size):
     return is_pair(value) and is_plain_integer(value[0]) and is_lot(value[1], size)
+
+
+def is_integer_and_whole_order(value, size):
+    return is_pair(value) and is_plain_integer(value[0]) and is_whole_order(value[1], size)
+
+
+def is_integer_and_deputies(value, size):
+    return is_pair(value) and is_plain_integer(value[0]) and are_deputies_of(value[1], size)
 
 
 def is_lot_and_integers(value, size, many, least, most):
@@ -99,14 +135,25 @@ def check_order(value, size):
         raise BadOrder("an order is a tuple of unlike people")
 
 
+def check_whole_order(value, size):
+    if not is_whole_order(value, size):
+        raise BadOrder("a whole order is a tuple of all people, each once")
+
+
 def check_told(value, size):
     if not isinstance(value, tuple):
         raise BadTold(None)
-    before = -1
     for index in range(len(value)):
-        if not is_told_pair(value[index], size) or value[index][0] <= before:
+        if not is_told_pair(value[index], size) or not is_behind_others(value, index):
             raise BadTold(index)
-        before = value[index][0]
+
+
+def check_wanted(value, size):
+    if not isinstance(value, tuple):
+        raise BadWanted(None)
+    for index in range(len(value)):
+        if not is_wanted_pair(value[index], size) or not is_behind_others(value, index):
+            raise BadWanted(index)
 
 
 def check_count(value, least, most):
@@ -129,6 +176,19 @@ def check_weights_alone(value):
 def check_costs(value, size):
     if not are_integers_from(value, size, 0, MOST_COST):
         raise BadCosts("costs are a tuple of integers from 0 to 1000, one for each person")
+
+
+def check_table(value, size):
+    if not are_rows_of_worths(value, size):
+        raise BadTable("a table has for each duty a tuple of integers from -100 to 100, the office's last")
+
+
+def check_lots(value, size):
+    if not isinstance(value, tuple) or len(value) > MOST_LOTS:
+        raise BadLots(None)
+    for index in range(len(value)):
+        if not is_lot(value[index], size):
+            raise BadLots(index)
 
 
 def check_size(value):

@@ -1,4 +1,4 @@
-"""All that there is of a size, in a fixed order.
+"""All that there is of a size, in a fixed order, and how one row of things is made from another.
 
 This file is for the package.
 """
@@ -6,6 +6,11 @@ This file is for the package.
 from itertools import combinations
 
 from firstthere.checks import OFFICE
+
+
+def put_at(row, place, thing):
+    """The row with another thing at a place."""
+    return (*row[:place], thing, *row[place + 1:])
 
 
 def lots_of(size, many):

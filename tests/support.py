@@ -116,6 +116,21 @@ def as_ratio(top, bottom=1):
     return (number.numerator, number.denominator)
 
 
+def as_mean(numbers):
+    return as_ratio(sum(numbers), len(numbers))
+
+
+def some_rows(size):
+    """Rows of what each holding is worth: nothing, the ends of the range, and others."""
+    everything = (-100, 100, 0, 1, -1, 37, 64, -53, 99, -7, 12)
+    yield ((0,) * (size + 1),) * size
+    yield tuple((100,) * size + (-100,) for _ in range(size))
+    yield tuple((-100,) * size + (100,) for _ in range(size))
+    for step in (1, 3, 7):
+        cells = [everything[step * at * (at + 3) // 2 % 11] for at in range(step, step + size * (size + 1))]
+        yield tuple(tuple(cells[at * (size + 1):(at + 1) * (size + 1)]) for at in range(size))
+
+
 def without_repeats(held):
     """The row without a thing that is like the one before."""
     return tuple(one for place, one in enumerate(held) if place == 0 or held[place - 1] != one)

@@ -1,24 +1,28 @@
-"""The error classes, and which error comes for which wrong argument (points 1 to 10)."""
+"""The error classes, and which error comes for which wrong argument (points 1 to 15)."""
 
+import importlib
 import unittest
 
 from firstthere import errors
-from firstthere.chances import ever_chance, handing_chances, hold_chance, mean_handings, mean_loads, together_chance
-from firstthere.costs import cheap_keepers, keeper_paper, shows_cheap_keepers, shows_keeper_paper
-from firstthere.deputies import chain, held_by, holder, holders, loads
-from firstthere.keeping import apart_chains, keeper_count, keepers, safe_count, shows_apart_chains, shows_keepers
-from firstthere.leaving import handing_count, handings, in_time, leaving
-from firstthere.needed import (
-    fewest_load, greatest_load, least_gone, load_lots, shows_fewest_load, shows_greatest_load)
-from firstthere.orders import handing_orders, number_in, order_at, orders_with
-from firstthere.rings import behind, chain_lengths, rounds, steps_to_end, to_office
+from firstthere.chances import ever_chance, hold_chance, mean_loads
+from firstthere.changing import fewest_changes, shows_fewest_changes
+from firstthere.costs import cheap_keepers, keeper_paper
+from firstthere.counts import chain_total, mean_chain, naming_count, office_count, ring_count
+from firstthere.deputies import chain, held_by, holders, loads
+from firstthere.leaving import in_time
+from firstthere.naming import first_common, join_lot, reduced, renamed
+from firstthere.needed import greatest_load, load_lots
+from firstthere.orders import number_in, orders_with
+from firstthere.rings import behind, rounds
 from firstthere.sights import first_against, fits, fitting, fitting_loads, next_seen, sure_deputies
+from firstthere.telling import least_tellers, shows_unlike_ones, tells_all, told_by, unlike_ones
 from firstthere.weights import (
-    ahead_chance, ever_chance_by, hold_chances_by, last_chances, lot_chance, mean_handings_by, order_chance)
+    ahead_chance, ever_chance_by, hold_chances_by, lot_chance, mean_handings_by, order_chance)
+from firstthere.worths import best_deputies, best_order, mean_worth, order_total, shows_best_deputies, worth
+from tests.kinds import ANY, ARGUMENTS
 from tests.support import Case
-from tests.wrong import (
-    HELD, LOADS, NO_COSTS, NO_COUNTS_TO_3, NO_COUNTS_TO_6, NO_DEPUTIES, NO_HOLDERS, NO_LOAD_SIGHTS, NO_LOTS, NO_ORDERS,
-    NO_PEOPLE, NO_SIGHTS, NO_SIZES, NO_TOLD, NO_WEIGHTS, NO_WEIGHTS_ALONE, NO_WHOLE_ORDERS, ODD_VALUES)
+from tests.test_package import INTERFACE
+from tests.wrong import NO_COSTS, NO_DEPUTIES, NO_LOTS, ODD_VALUES
 
 PLAIN = (
     "BadDeputies", "BadLot", "BadPerson", "BadOrder", "NotThere", "BadNumber", "BadCount", "BadWeights", "BadCosts",
@@ -30,83 +34,19 @@ FIELDS = {
     "TooMany": "most",
 }
 
-# A kind of argument: an allowed value, the error, and wrong values, each with the fields that its error has.
-DEPUTIES = ((1, -1, 0), errors.BadDeputies, [(value, {}) for value in NO_DEPUTIES])
-PERSON = (2, errors.BadPerson, [(value, {}) for value in NO_PEOPLE])
-HOLDER = (-1, errors.BadPerson, [(value, {}) for value in NO_HOLDERS])
-LOT = ((0, 1), errors.BadLot, [(value, {}) for value in NO_LOTS])
-ORDER = ((1, 0), errors.BadOrder, [(value, {}) for value in NO_ORDERS])
-WHOLE_ORDER = ((1, 0, 2), errors.BadOrder, [(value, {}) for value in NO_WHOLE_ORDERS])
-TOLD = ((), errors.BadTold, [(value, {"index": index}) for value, index in NO_TOLD])
-NUMBER = (5, errors.BadNumber, [(value, {}) for value in ODD_VALUES + (-1, 6, 7, 1000, (0,), ())])
-COUNT_TO_3 = (3, errors.BadCount, [(value, {}) for value in NO_COUNTS_TO_3])
-COUNT_TO_6 = (6, errors.BadCount, [(value, {}) for value in NO_COUNTS_TO_6])
-WEIGHTS = ((1, 60, 7), errors.BadWeights, [(value, {}) for value in NO_WEIGHTS])
-WEIGHTS_ALONE = ((1, 60, 7), errors.BadWeights, [(value, {}) for value in NO_WEIGHTS_ALONE])
-COSTS = ((0, 1000, 7), errors.BadCosts, [(value, {}) for value in NO_COSTS])
-SIZE = (3, errors.BadSize, [(value, {}) for value in NO_SIZES])
-SIGHTS = ((((0,), HELD),), errors.BadSights, [(value, {"index": index}) for value, index in NO_SIGHTS])
-LOAD_SIGHTS = ((((0,), LOADS),), errors.BadSights, [(value, {"index": index}) for value, index in NO_LOAD_SIGHTS])
-# The last argument of a `shows` function: no value of it is wrong.
-ANY = (None, None, [(value, {}) for value in ODD_VALUES])
-
-FUNCTIONS = (
-    (chain, DEPUTIES, PERSON),
-    (holder, DEPUTIES, LOT, PERSON),
-    (holders, DEPUTIES, LOT),
-    (held_by, DEPUTIES, LOT, HOLDER),
-    (loads, DEPUTIES, LOT),
-    (rounds, DEPUTIES),
-    (to_office, DEPUTIES),
-    (chain_lengths, DEPUTIES),
-    (steps_to_end, DEPUTIES),
-    (behind, DEPUTIES, PERSON),
-    (in_time, DEPUTIES, ORDER),
-    (handings, DEPUTIES, ORDER, PERSON),
-    (handing_count, DEPUTIES, ORDER),
-    (leaving, DEPUTIES, LOT, PERSON),
-    (orders_with, DEPUTIES, TOLD),
-    (order_at, DEPUTIES, TOLD, NUMBER),
-    (number_in, DEPUTIES, TOLD, WHOLE_ORDER),
-    (handing_orders, DEPUTIES),
-    (ever_chance, DEPUTIES, PERSON, HOLDER),
-    (handing_chances, DEPUTIES, PERSON),
-    (mean_handings, DEPUTIES),
-    (hold_chance, DEPUTIES, COUNT_TO_3, PERSON, HOLDER),
-    (mean_loads, DEPUTIES, COUNT_TO_3),
-    (together_chance, DEPUTIES, COUNT_TO_3, PERSON, PERSON),
-    (order_chance, WEIGHTS_ALONE, ORDER),
-    (ahead_chance, WEIGHTS_ALONE, LOT, PERSON),
-    (last_chances, WEIGHTS_ALONE),
-    (lot_chance, WEIGHTS_ALONE, LOT),
-    (ever_chance_by, DEPUTIES, WEIGHTS, PERSON, HOLDER),
-    (hold_chances_by, DEPUTIES, WEIGHTS, COUNT_TO_3, PERSON),
-    (mean_handings_by, DEPUTIES, WEIGHTS),
-    (least_gone, DEPUTIES, PERSON, HOLDER),
-    (fewest_load, DEPUTIES, PERSON, COUNT_TO_6),
-    (shows_fewest_load, DEPUTIES, PERSON, COUNT_TO_6, ANY),
-    (load_lots, DEPUTIES, PERSON, COUNT_TO_6),
-    (greatest_load, DEPUTIES, COUNT_TO_6),
-    (shows_greatest_load, DEPUTIES, COUNT_TO_6, ANY),
-    (keepers, DEPUTIES),
-    (shows_keepers, DEPUTIES, ANY),
-    (keeper_count, DEPUTIES),
-    (apart_chains, DEPUTIES),
-    (shows_apart_chains, DEPUTIES, ANY),
-    (safe_count, DEPUTIES),
-    (cheap_keepers, DEPUTIES, COSTS),
-    (shows_cheap_keepers, DEPUTIES, COSTS, ANY),
-    (keeper_paper, DEPUTIES, COSTS),
-    (shows_keeper_paper, DEPUTIES, COSTS, ANY),
-    (fitting, SIZE, SIGHTS),
-    (fits, DEPUTIES, SIGHTS),
-    (sure_deputies, SIZE, SIGHTS),
-    (next_seen, SIZE, SIGHTS, LOT),
-    (first_against, SIZE, SIGHTS),
-    (fitting_loads, SIZE, LOAD_SIGHTS),
+# Values nearly of the kinds that a `shows` function takes, and deeper ones.
+LARGER = (
+    ((1, 2), (1, -1, 0)), ((1, 2), (1, -1)), ((0, 0), (1, -1, 0)), (1, (2, 1, 0)), ((1, -1, 0), (1, -1, 1)),
+    ((1, -1, 0), (1, -1)), (((1, 1),) * 3, ((0, 1),) * 3), (((1, 1),) * 3, ((0, 0),) * 3), ((0,), (1,), (2,)),
+    ((0, [1]), (2,)), (((0,),),), ((((),),),), [((0,), (1, 2))], {"0": ((0,),)}, (1, (0, 1)), ("1", (0, 1)),
 )
 
-# These take a size of at most 4.
+# Each function with the kinds of its arguments.
+FUNCTIONS = [
+    (getattr(importlib.import_module("firstthere." + name), function), *kinds)
+    for name, functions in ARGUMENTS.items() for function, kinds in functions.items()]
+
+# These take sights and a size of at most 4.
 FOR_FEW = (fitting, sure_deputies, next_seen, first_against, fitting_loads)
 
 
@@ -142,6 +82,13 @@ def wrong_ones(kinds):
 
 
 class WrongArguments(Case):
+    def test_all_functions_are_asked(self):
+        self.assertEqual(list(ARGUMENTS), list(INTERFACE))
+        for name, functions in ARGUMENTS.items():
+            with self.subTest(file=name):
+                parameters = {function: len(asked.split()) for function, asked in INTERFACE[name].items()}
+                self.assertEqual({function: len(kinds) for function, kinds in functions.items()}, parameters)
+
     def test_allowed_values_are_allowed(self):
         for call, *kinds in FUNCTIONS:
             with self.subTest(call=call.__name__):
@@ -178,7 +125,7 @@ class WrongArguments(Case):
             self.assertEqual(call.__name__.startswith("shows"), kinds[-1] is ANY)
             if kinds[-1] is ANY:
                 values = [kind[0] for kind in kinds[:-1]]
-                for value in (*ODD_VALUES, *NO_DEPUTIES, *NO_LOTS, *NO_COSTS, 0, (), ((1, 0),), 2 ** 900):
+                for value in (*ODD_VALUES, *NO_DEPUTIES, *NO_LOTS, *NO_COSTS, 0, (), ((1, 0),), 2 ** 900, *LARGER):
                     with self.subTest(call=call.__name__, value=value):
                         self.assertIn(repr(call(*values, value)), ("True", "False"))
 
@@ -208,6 +155,38 @@ class WrongArguments(Case):
         self.fails(errors.BadSights, fitting, 2, (((), (0, 1, 2)),), index=0)
         self.fails(errors.BadSights, fitting_loads, 2, (((), (1, 1, 0)), ((), (1, 1, 3))), index=1)
         self.fails(errors.BadLot, next_seen, 2, (((), (0, 1)),), (2,))
+        self.fails(errors.BadLots, tells_all, 2, ((0,), (1, 2)), index=1)
+        self.fails(errors.BadLots, told_by, (1, 0), ((0,), (1,), (2,)), index=2)
+        self.fails(errors.BadTable, worth, (1, 0), ((0, 0, 0, 0),) * 2, ())
+        self.fails(errors.BadTable, best_order, (1, 0), ((0, 0, 0),) * 3)
+        self.fails(errors.BadCount, mean_worth, (1, 0), ((0, 0, 0),) * 2, 3)
+        self.fails(errors.BadOrder, order_total, (1, 0), ((0, 0, 0),) * 2, (2,))
+        self.fails(errors.BadWanted, fewest_changes, (1, 0), (), ((0, 0), (1, 2)), index=1)
+        self.fails(errors.BadWanted, fewest_changes, (1, 0), (), ((2, 0),), index=0)
+        self.fails(errors.BadLot, reduced, (1, 0), (2,))
+        self.fails(errors.BadOrder, renamed, (1, 0), (0, 1, 2))
+        self.fails(errors.BadOrder, renamed, (1, 0), (0,))
+        self.fails(errors.BadPerson, first_common, (1, 0), 0, 2)
+        self.fails(errors.BadPerson, join_lot, (1, 0), 2, 0)
+
+    def test_numbers_of_people_up_to_60(self):
+        for size in (1, 2, 60):
+            for many in (0, size):
+                self.assertGreaterEqual(office_count(size, many), 0)
+                self.assertGreaterEqual(ring_count(size, many), 0)
+            for length in (1, size):
+                self.assertGreater(chain_total(size, length), 0)
+            self.assertGreaterEqual(mean_chain(size), (1, 1))
+            for many in (-1, size + 1, 61, True, None, "1", (1,)):
+                self.fails(errors.BadCount, office_count, size, many)
+                self.fails(errors.BadCount, ring_count, size, many)
+                self.fails(errors.BadCount, chain_total, size, many)
+            self.fails(errors.BadCount, chain_total, size, 0)
+        for size in (0, 61, -1, True, "60", None, (60,), [1]):
+            self.fails(errors.BadCount, naming_count, size)
+            self.fails(errors.BadCount, mean_chain, size)
+            for call in (office_count, ring_count, chain_total):
+                self.fails(errors.BadCount, call, size, 1)
 
     def test_counts_up_to_6_are_so_for_few_people_too(self):
         for many in range(7):
@@ -245,6 +224,47 @@ class TooManyPeople(Case):
             self.same(sure_deputies(size, held), (-1,) if size == 1 else (None,) * size)
             self.same(next_seen(size, held, ()), (tuple(range(size)),))
             self.same(first_against(size, held), None)
+
+    def test_sizes_of_5_and_6_without_sights(self):
+        for size in (5, 6):
+            deputies = (-1,) * size
+            table = ((0,) * (size + 1),) * size
+            lots = tuple((person,) for person in range(size))
+            self.fails(errors.TooMany, least_tellers, size, most=4)
+            self.fails(errors.TooMany, told_by, deputies, lots, most=4)
+            self.fails(errors.TooMany, told_by, deputies, (), most=4)
+            self.fails(errors.TooMany, fewest_changes, deputies, (0,), ((0, 1),), most=4)
+            self.same([tells_all(size, lots), unlike_ones(size, lots), shows_unlike_ones(size, lots, None)],
+                      [True, None, True])
+            for many in (0, size):
+                self.fails(errors.TooMany, best_deputies, size, table, many, most=4)
+                for value in (((0, 1), deputies), None, 1):
+                    self.fails(errors.TooMany, shows_best_deputies, size, table, many, value, most=4)
+            for value in ((0, deputies), None, 1):
+                self.fails(errors.TooMany, shows_fewest_changes, deputies, (), (), value, most=4)
+
+    def test_all_other_errors_come_before_it(self):
+        for size in (5, 6):
+            deputies = (-1,) * size
+            table = ((0,) * (size + 1),) * size
+            for lots, index in ((None, None), (((),) * 31, None), ((0,), 0), (((), (size,)), 1), (((1, 0),), 0)):
+                self.fails(errors.BadLots, told_by, deputies, lots, index=index)
+            for call, *values in ((best_deputies,), (shows_best_deputies, None)):
+                for rows in (None, table[1:], ((0,) * size,) * size, [table], ((101,) * (size + 1),) * size):
+                    self.fails(errors.BadTable, call, size, rows, 0, *values)
+                for many in (-1, size + 1, True, None, "0"):
+                    self.fails(errors.BadCount, call, size, table, many, *values)
+            for call, *values in ((fewest_changes,), (shows_fewest_changes, None)):
+                for lot in ((size,), (1, 0), None, 0):
+                    self.fails(errors.BadLot, call, deputies, lot, (), *values)
+                for wanted, index in ((None, None), (((0, size),), 0), (((1, 0), (0, 1)), 1)):
+                    self.fails(errors.BadWanted, call, deputies, (), wanted, *values, index=index)
+        for size in (7, 0, True, None, "5", (5,), [5]):
+            self.fails(errors.BadSize, least_tellers, size)
+            self.fails(errors.BadSize, best_deputies, size, None, None)
+        for deputies in ((-1,) * 7, (5, 0, 0, 0, 0), (-1, -1, -1, -1, -1, -1, 0), [-1] * 5):
+            self.fails(errors.BadDeputies, told_by, deputies, None)
+            self.fails(errors.BadDeputies, fewest_changes, deputies, None, None)
 
     def test_all_other_errors_come_first(self):
         for size in (5, 6):

@@ -54,6 +54,32 @@ EXAMPLES = {
 >>> [fitting(2, (((0,), (1, 1)),)), fits((1, -1), (((0,), (1, 1)),)), sure_deputies(2, (((0,), (1, 1)),)), next_seen(2, (((0,), (1, 1)),), (1,)), first_against(2, (((0,), (1, 1)), ((0,), (-1, 1)))), fitting_loads(2, (((0, 1), (0, 0, 2)),))]
 [((1, -1), (1, 0)), True, (1, None), ((0, -1), (0, 0)), 2, ((-1, -1), (-1, 0), (1, -1), (1, 0))]
 """,
+    "telling": """
+>>> from firstthere.telling import least_tellers, tells_all, told_by, unlike_ones
+>>> [tells_all(2, ((0,), (1,))), tells_all(2, ((0, 1),)), least_tellers(3), told_by((-1, -1), ((0,), (1,))), unlike_ones(2, ((0,), (1,)))]
+[True, False, 3, True, None]
+""",
+    "worths": """
+>>> from firstthere.worths import best_order, mean_worth, order_total, shows_best_deputies, worth
+>>> table = ((3, 1, 0), (0, 5, 0))
+>>> [worth((1, -1), table, (0,)), mean_worth((1, -1), table, 1), order_total((1, -1), table, (0, 1)), best_order((1, -1), table), shows_best_deputies(2, table, 1, ((9, 2), (1, -1)))]
+[6, (9, 2), 6, (6, (0, 1)), True]
+""",
+    "changing": """
+>>> from firstthere.changing import fewest_changes
+>>> [fewest_changes((-1, -1), (0,), ((0, 1),)), fewest_changes((1, -1), (), ((0, 1),))]
+[(1, (1, -1)), None]
+""",
+    "counts": """
+>>> from firstthere.counts import chain_total, mean_chain, naming_count, office_count, ring_count
+>>> [naming_count(3), office_count(3, 1), ring_count(3, 2), chain_total(2, 1), mean_chain(2)]
+[27, 12, 9, 4, (3, 2)]
+""",
+    "naming": """
+>>> from firstthere.naming import first_common, join_lot, reduced, renamed
+>>> [reduced((1, 2, -1, 0), (1,)), renamed((1, -1, 0), (2, 0, 1)), first_common((1, -1, 0), 2, 0), join_lot((1, -1, 0), 2, 0), join_lot((-1, -1), 0, 1)]
+[(2, 2, -1, 0), (-1, 2, 0), 0, (2,), None]
+""",
 }
 
 

@@ -43,6 +43,21 @@ INTERFACE = {
     "sights": {
         "fitting": "size sights", "fits": "deputies sights", "sure_deputies": "size sights",
         "next_seen": "size sights gone", "first_against": "size sights", "fitting_loads": "size sights"},
+    "telling": {
+        "tells_all": "size lots", "unlike_ones": "size lots", "shows_unlike_ones": "size lots value",
+        "least_tellers": "size", "told_by": "deputies lots"},
+    "worths": {
+        "worth": "deputies table gone", "mean_worth": "deputies table many", "best_deputies": "size table many",
+        "shows_best_deputies": "size table many value", "best_order": "deputies table",
+        "shows_best_order": "deputies table value", "order_total": "deputies table order"},
+    "changing": {
+        "fewest_changes": "deputies gone wanted", "shows_fewest_changes": "deputies gone wanted value"},
+    "counts": {
+        "naming_count": "size", "office_count": "size many", "ring_count": "size many", "chain_total": "size length",
+        "mean_chain": "size"},
+    "naming": {
+        "reduced": "deputies gone", "renamed": "deputies order", "first_common": "deputies one other",
+        "join_lot": "deputies one other", "shows_join_lot": "deputies one other value"},
 }
 
 LIBRARY = {
@@ -132,7 +147,8 @@ class Language(unittest.TestCase):
             tree = ast.parse(path.read_text())
             own = own_names(tree)
             with self.subTest(file=path.name):
-                self.assertFalse(own & set(dir(builtins)))
+                # `_` is a builtin only where an example has been shown.
+                self.assertFalse((own - {"_"}) & set(dir(builtins)))
             for node in ast.walk(tree):
                 if isinstance(node, ast.Name) and isinstance(node.ctx, ast.Load):
                     with self.subTest(file=path.name, name=node.id):

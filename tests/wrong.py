@@ -14,6 +14,7 @@ NO_DEPUTIES = ODD_VALUES + (
 NO_COUNTS_AT_ALL = ODD_VALUES + ((1,), [1], {1: 1}, -1, -2, 61, 1000, "2", (), (2, 1))
 NO_COUNTS_TO_6 = NO_COUNTS_AT_ALL + (7, 8)
 NO_SIZES = NO_COUNTS_AT_ALL + (0, 7, 8, (1, 0, -1))
+NO_COUNTS_FROM_1 = NO_COUNTS_AT_ALL + (0, 62, 10 ** 30)
 NO_WEIGHTS_ALONE = ODD_VALUES + (
     (), 0, 1, 60, (0,), (-1,), (61,), (1, 0), (0, 1), (1, -1), (60, 61), (1, 1000), (1, True), (True, 1), [1, 2], [1],
     (1, "1"), ("1", 1), (1, None), (1, (1,)), (1, [1]), {0: 1, 1: 2}, "12", (1, 1, 1, 1, 1, 0), (1,) * 7, (60,) * 8,
@@ -82,3 +83,43 @@ def no_sights(row, no_rows):
 
 NO_SIGHTS = no_sights(HELD, NO_HELD)
 NO_LOAD_SIGHTS = no_sights(LOADS, NO_LOADS)
+
+
+# Rows of what each holding is worth: tables, and wishes too. The next ones are wrong for three people.
+ROWS = ((100, -100, 0, 7), (1, 2, 3, 4), (0, -1, 0, 60))
+NO_ROW = ODD_VALUES + (
+    (), 0, 1, (0,), (0, 0, 0), (0, 0, 0, 0, 0), (101, 0, 0, 0), (0, -101, 0, 0), (0, 0, 1000, 0), (0, 0, 0, 101),
+    (0, 0, 0, -101), (0, True, 0, 0), (False, 0, 0, 0), (0, "1", 0, 0), (0, None, 0, 0), (0, 0, (0,), 0),
+    (0, 0, 0, [0]), (0, {}, 0, 0), [0, 0, 0, 0], {0: 0, 1: 0, 2: 0, 3: 0}, "0000",
+)
+NO_TABLES = ODD_VALUES + (
+    (), 0, -1, ROWS[0], ROWS[:1], ROWS[:2], ROWS + ROWS[:1], ROWS * 2, list(ROWS), {0: ROWS[0], 1: ROWS[1], 2: ROWS[2]},
+) + tuple((*ROWS[:at], row, *ROWS[at + 1:]) for at in range(3) for row in NO_ROW)
+
+
+def no_lots():
+    """What is no tuple of at most 30 lots of three people, each with the index that the error tells."""
+    no_tuples = [value for value in ODD_VALUES if not isinstance(value, tuple)]
+    found = [(value, None) for value in (*no_tuples, 0, -1, [(0,)], [()], {(0,): 1}, ((0,),) * 31, (None,) * 40)]
+    for one in NO_LOTS:
+        found += [((one,), 0), (((), one), 1), (((0, 1), (0, 1), one, one, (0,)), 2), (((),) * 29 + (one,), 29)]
+    return tuple(found)
+
+
+NO_LOTS_IN_ROWS = no_lots()
+
+
+def no_wanted():
+    """What is no wanted holders of three people, each with the index that the error tells."""
+    no_tuples = [value for value in ODD_VALUES if not isinstance(value, tuple)]
+    found = [(value, None) for value in (*no_tuples, 0, -1, [(0, 1)], [()], {0: 1})]
+    no_pairs = [*ODD_VALUES[:-4], (), 0, 1, -1, (0,), (0, 1, 2), [0, 1], {0: 1}, "01", (0, "1"), (0, None), (0, (1,)),
+                (True, 1), (2, True), (-1, 0), (3, 0), (0, 3), (0, -2), (-1, -1), ("0", 1), ((0,), 1), (None, 0)]
+    for one in no_pairs:
+        found += [((one,), 0), (((0, 1), one), 1), (((0, 0), (1, -1), one, one), 2), ((one, (0, 1), (0, 1)), 0)]
+    for one in ((0, 1), (0, 0), (0, -1)):
+        found += [(((0, 1), one), 1), (((1, 1), one), 1), (((0, 1), (2, 1), one), 2), (((0, 1), one, None), 1)]
+    return tuple(found) + ((((0, 1), (2, 1), (1, 1)), 2), (((0, 1), (1, 1), (2, 2), (2, 2)), 3))
+
+
+NO_WANTED = no_wanted()

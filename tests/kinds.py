@@ -1,0 +1,128 @@
+"""Kinds of arguments: for each an allowed value, the error, and wrong values with the fields that its error has."""
+
+from firstthere import errors
+from tests.wrong import (
+    HELD, LOADS, NO_COSTS, NO_COUNTS_FROM_1, NO_COUNTS_TO_3, NO_COUNTS_TO_6, NO_DEPUTIES, NO_HOLDERS, NO_LOAD_SIGHTS,
+    NO_LOTS, NO_LOTS_IN_ROWS, NO_ORDERS, NO_PEOPLE, NO_SIGHTS, NO_SIZES, NO_TABLES, NO_TOLD, NO_WANTED, NO_WEIGHTS,
+    NO_WEIGHTS_ALONE, NO_WHOLE_ORDERS, ODD_VALUES, ROWS)
+
+DEPUTIES = ((1, -1, 0), errors.BadDeputies, [(value, {}) for value in NO_DEPUTIES])
+PERSON = (2, errors.BadPerson, [(value, {}) for value in NO_PEOPLE])
+HOLDER = (-1, errors.BadPerson, [(value, {}) for value in NO_HOLDERS])
+LOT = ((0, 1), errors.BadLot, [(value, {}) for value in NO_LOTS])
+ORDER = ((1, 0), errors.BadOrder, [(value, {}) for value in NO_ORDERS])
+WHOLE_ORDER = ((1, 0, 2), errors.BadOrder, [(value, {}) for value in NO_WHOLE_ORDERS])
+TOLD = ((), errors.BadTold, [(value, {"index": index}) for value, index in NO_TOLD])
+NUMBER = (5, errors.BadNumber, [(value, {}) for value in ODD_VALUES + (-1, 6, 7, 1000, (0,), ())])
+COUNT_TO_3 = (3, errors.BadCount, [(value, {}) for value in NO_COUNTS_TO_3])
+COUNT_TO_6 = (6, errors.BadCount, [(value, {}) for value in NO_COUNTS_TO_6])
+WEIGHTS = ((1, 60, 7), errors.BadWeights, [(value, {}) for value in NO_WEIGHTS])
+WEIGHTS_ALONE = ((1, 60, 7), errors.BadWeights, [(value, {}) for value in NO_WEIGHTS_ALONE])
+COSTS = ((0, 1000, 7), errors.BadCosts, [(value, {}) for value in NO_COSTS])
+SIZE = (3, errors.BadSize, [(value, {}) for value in NO_SIZES])
+SIGHTS = ((((0,), HELD),), errors.BadSights, [(value, {"index": index}) for value, index in NO_SIGHTS])
+LOAD_SIGHTS = ((((0,), LOADS),), errors.BadSights, [(value, {"index": index}) for value, index in NO_LOAD_SIGHTS])
+COUNT_FROM_1 = (60, errors.BadCount, [(value, {}) for value in NO_COUNTS_FROM_1])
+SIZE_TO_60 = (3, errors.BadCount, [(value, {}) for value in NO_COUNTS_FROM_1])
+COUNT_1_TO_3 = (1, errors.BadCount, [(value, {}) for value in NO_COUNTS_TO_3 + (0,)])
+LOTS = (((0, 1), (), (0, 1)), errors.BadLots, [(value, {"index": index}) for value, index in NO_LOTS_IN_ROWS])
+TABLE = (ROWS, errors.BadTable, [(value, {}) for value in NO_TABLES])
+WANTED = (((0, 2), (2, -1)), errors.BadWanted, [(value, {"index": index}) for value, index in NO_WANTED])
+# The last argument of a `shows` function: no value of it is wrong.
+ANY = (None, None, [(value, {}) for value in ODD_VALUES])
+
+# Of each function of the interface, file by file, the kinds of its arguments.
+ARGUMENTS = {
+    "deputies": {
+        "chain": (DEPUTIES, PERSON),
+        "holder": (DEPUTIES, LOT, PERSON),
+        "holders": (DEPUTIES, LOT),
+        "held_by": (DEPUTIES, LOT, HOLDER),
+        "loads": (DEPUTIES, LOT)},
+    "rings": {
+        "rounds": (DEPUTIES,),
+        "to_office": (DEPUTIES,),
+        "chain_lengths": (DEPUTIES,),
+        "steps_to_end": (DEPUTIES,),
+        "behind": (DEPUTIES, PERSON)},
+    "leaving": {
+        "in_time": (DEPUTIES, ORDER),
+        "handings": (DEPUTIES, ORDER, PERSON),
+        "handing_count": (DEPUTIES, ORDER),
+        "leaving": (DEPUTIES, LOT, PERSON)},
+    "orders": {
+        "orders_with": (DEPUTIES, TOLD),
+        "order_at": (DEPUTIES, TOLD, NUMBER),
+        "number_in": (DEPUTIES, TOLD, WHOLE_ORDER),
+        "handing_orders": (DEPUTIES,)},
+    "chances": {
+        "ever_chance": (DEPUTIES, PERSON, HOLDER),
+        "handing_chances": (DEPUTIES, PERSON),
+        "mean_handings": (DEPUTIES,),
+        "hold_chance": (DEPUTIES, COUNT_TO_3, PERSON, HOLDER),
+        "mean_loads": (DEPUTIES, COUNT_TO_3),
+        "together_chance": (DEPUTIES, COUNT_TO_3, PERSON, PERSON)},
+    "weights": {
+        "order_chance": (WEIGHTS_ALONE, ORDER),
+        "ahead_chance": (WEIGHTS_ALONE, LOT, PERSON),
+        "last_chances": (WEIGHTS_ALONE,),
+        "lot_chance": (WEIGHTS_ALONE, LOT),
+        "ever_chance_by": (DEPUTIES, WEIGHTS, PERSON, HOLDER),
+        "hold_chances_by": (DEPUTIES, WEIGHTS, COUNT_TO_3, PERSON),
+        "mean_handings_by": (DEPUTIES, WEIGHTS)},
+    "needed": {
+        "least_gone": (DEPUTIES, PERSON, HOLDER),
+        "fewest_load": (DEPUTIES, PERSON, COUNT_TO_6),
+        "shows_fewest_load": (DEPUTIES, PERSON, COUNT_TO_6, ANY),
+        "load_lots": (DEPUTIES, PERSON, COUNT_TO_6),
+        "greatest_load": (DEPUTIES, COUNT_TO_6),
+        "shows_greatest_load": (DEPUTIES, COUNT_TO_6, ANY)},
+    "keeping": {
+        "keepers": (DEPUTIES,),
+        "shows_keepers": (DEPUTIES, ANY),
+        "keeper_count": (DEPUTIES,),
+        "apart_chains": (DEPUTIES,),
+        "shows_apart_chains": (DEPUTIES, ANY),
+        "safe_count": (DEPUTIES,)},
+    "costs": {
+        "cheap_keepers": (DEPUTIES, COSTS),
+        "shows_cheap_keepers": (DEPUTIES, COSTS, ANY),
+        "keeper_paper": (DEPUTIES, COSTS),
+        "shows_keeper_paper": (DEPUTIES, COSTS, ANY)},
+    "sights": {
+        "fitting": (SIZE, SIGHTS),
+        "fits": (DEPUTIES, SIGHTS),
+        "sure_deputies": (SIZE, SIGHTS),
+        "next_seen": (SIZE, SIGHTS, LOT),
+        "first_against": (SIZE, SIGHTS),
+        "fitting_loads": (SIZE, LOAD_SIGHTS)},
+    "telling": {
+        "tells_all": (SIZE, LOTS),
+        "unlike_ones": (SIZE, LOTS),
+        "shows_unlike_ones": (SIZE, LOTS, ANY),
+        "least_tellers": (SIZE,),
+        "told_by": (DEPUTIES, LOTS)},
+    "worths": {
+        "worth": (DEPUTIES, TABLE, LOT),
+        "mean_worth": (DEPUTIES, TABLE, COUNT_TO_3),
+        "best_deputies": (SIZE, TABLE, COUNT_TO_3),
+        "shows_best_deputies": (SIZE, TABLE, COUNT_TO_3, ANY),
+        "best_order": (DEPUTIES, TABLE),
+        "shows_best_order": (DEPUTIES, TABLE, ANY),
+        "order_total": (DEPUTIES, TABLE, ORDER)},
+    "changing": {
+        "fewest_changes": (DEPUTIES, LOT, WANTED),
+        "shows_fewest_changes": (DEPUTIES, LOT, WANTED, ANY)},
+    "counts": {
+        "naming_count": (COUNT_FROM_1,),
+        "office_count": (SIZE_TO_60, COUNT_TO_3),
+        "ring_count": (SIZE_TO_60, COUNT_TO_3),
+        "chain_total": (SIZE_TO_60, COUNT_1_TO_3),
+        "mean_chain": (COUNT_FROM_1,)},
+    "naming": {
+        "reduced": (DEPUTIES, LOT),
+        "renamed": (DEPUTIES, WHOLE_ORDER),
+        "first_common": (DEPUTIES, PERSON, PERSON),
+        "join_lot": (DEPUTIES, PERSON, PERSON),
+        "shows_join_lot": (DEPUTIES, PERSON, PERSON, ANY)},
+}
