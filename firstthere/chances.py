@@ -30,6 +30,11 @@ def record_counts(length):
     return counts
 
 
+def hold_chance_of(deputies, many, person, other):
+    held = [holder_of(deputies, lot, person) for lot in lots_of(len(deputies), many)]
+    return ratio(held.count(other), len(held))
+
+
 def ever_chance(deputies, person, other):
     """The chance that the other one, or the office, ever holds the person's duty."""
     check_deputies(deputies)
@@ -60,8 +65,7 @@ def hold_chance(deputies, many, person, other):
     check_count(many, 0, len(deputies))
     check_person(person, len(deputies))
     check_holder(other, len(deputies))
-    held = [holder_of(deputies, lot, person) for lot in lots_of(len(deputies), many)]
-    return ratio(held.count(other), len(held))
+    return hold_chance_of(deputies, many, person, other)
 
 
 def mean_loads(deputies, many):

@@ -1,8 +1,8 @@
 """What values are allowed: an `is_` or `are_` function asks, a `check_` function raises the error."""
 
 from firstthere.errors import (
-    BadCosts, BadCount, BadDeputies, BadLot, BadLots, BadOrder, BadPerson, BadSights, BadSize, BadTable, BadTold,
-    BadWanted, BadWeights, TooMany)
+    BadCosts, BadCount, BadDeputies, BadLot, BadLots, BadOrder, BadPerson, BadPlaces, BadSights, BadSize, BadTable,
+    BadTold, BadWanted, BadWeights, BadWishes, TooMany)
 
 OFFICE = -1
 MOST_PEOPLE = 6
@@ -181,6 +181,17 @@ def check_costs(value, size):
 def check_table(value, size):
     if not are_rows_of_worths(value, size):
         raise BadTable("a table has for each duty a tuple of integers from -100 to 100, the office's last")
+
+
+def check_wishes(value, size):
+    if not are_rows_of_worths(value, size):
+        raise BadWishes("wishes have for each person a tuple of integers from -100 to 100, that for nobody last")
+
+
+def check_places(value, length):
+    # Places in an order of so many are what a lot of so many people is.
+    if not is_lot(value, length):
+        raise BadPlaces("places are an ascending tuple of unlike integers from 0 to less than the length")
 
 
 def check_lots(value, size):

@@ -3,7 +3,7 @@
 from firstthere.checks import check_costs, check_deputies, is_integer_and_lot
 from firstthere.deputies import chain_of
 from firstthere.keeping import keeping_lots
-from firstthere.ratios import NONE_AT_ALL, is_ratio, sum_of
+from firstthere.ratios import NONE_AT_ALL, are_amounts, sum_of
 from firstthere.rings import is_end
 
 
@@ -21,12 +21,6 @@ def paper_number(deputies, costs, person):
     if is_end(deputies, person) and person == min(met):
         return (min(costs[one] for one in met), 1)
     return NONE_AT_ALL
-
-
-def are_amounts(value, size):
-    if not isinstance(value, tuple) or len(value) != size:
-        return False
-    return all(is_ratio(each) and each[0] >= 0 for each in value)
 
 
 def is_within(deputies, costs, paper, person):

@@ -25,7 +25,29 @@ def sum_of(ratios):
     return (top, bottom)
 
 
+def mean_place(chances):
+    """The mean of 0, 1, 2, .. that come by these chances."""
+    return sum_of([ratio(place * top, bottom) for place, (top, bottom) in enumerate(chances)])
+
+
+def is_at_least(value, number):
+    """Whether a ratio is at least an integer."""
+    top, bottom = value
+    return top >= number * bottom
+
+
 def is_ratio(value):
     if not is_pair(value) or not is_plain_integer(value[0]) or not is_plain_integer(value[1]):
         return False
     return value[1] > 0 and gcd(value[0], value[1]) == 1
+
+
+def are_ratios(value, many):
+    if not isinstance(value, tuple) or len(value) != many:
+        return False
+    return all(is_ratio(each) for each in value)
+
+
+def are_amounts(value, many):
+    """Whether the value is a tuple of so many ratios from 0 on."""
+    return are_ratios(value, many) and all(top >= 0 for top, _ in value)

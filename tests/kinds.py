@@ -25,8 +25,12 @@ LOAD_SIGHTS = ((((0,), LOADS),), errors.BadSights, [(value, {"index": index}) fo
 COUNT_FROM_1 = (60, errors.BadCount, [(value, {}) for value in NO_COUNTS_FROM_1])
 SIZE_TO_60 = (3, errors.BadCount, [(value, {}) for value in NO_COUNTS_FROM_1])
 COUNT_1_TO_3 = (1, errors.BadCount, [(value, {}) for value in NO_COUNTS_TO_3 + (0,)])
+COUNT_1_TO_2 = (2, errors.BadCount, [(value, {}) for value in NO_COUNTS_TO_3 + (0, 3)])
+COUNT_1_TO_6 = (6, errors.BadCount, [(value, {}) for value in NO_COUNTS_TO_6 + (0,)])
+PLACES = ((0, 2), errors.BadPlaces, [(value, {}) for value in NO_LOTS])
 LOTS = (((0, 1), (), (0, 1)), errors.BadLots, [(value, {"index": index}) for value, index in NO_LOTS_IN_ROWS])
 TABLE = (ROWS, errors.BadTable, [(value, {}) for value in NO_TABLES])
+WISHES = (ROWS, errors.BadWishes, [(value, {}) for value in NO_TABLES])
 WANTED = (((0, 2), (2, -1)), errors.BadWanted, [(value, {"index": index}) for value, index in NO_WANTED])
 # The last argument of a `shows` function: no value of it is wrong.
 ANY = (None, None, [(value, {}) for value in ODD_VALUES])
@@ -125,4 +129,43 @@ ARGUMENTS = {
         "first_common": (DEPUTIES, PERSON, PERSON),
         "join_lot": (DEPUTIES, PERSON, PERSON),
         "shows_join_lot": (DEPUTIES, PERSON, PERSON, ANY)},
+    "moments": {
+        "moment": (DEPUTIES, ORDER, PERSON, HOLDER),
+        "out_chances": (DEPUTIES, PERSON),
+        "mean_out": (DEPUTIES, PERSON),
+        "holding_time": (DEPUTIES, PERSON, PERSON),
+        "record_orders": (SIZE_TO_60, PLACES)},
+    "hands": {
+        "late_end": (DEPUTIES, PERSON),
+        "early_end": (DEPUTIES, PERSON),
+        "late_moves": (DEPUTIES, LOT, PERSON),
+        "wins_duty": (DEPUTIES, PERSON, PERSON)},
+    "days": {
+        "plan": (DEPUTIES, LOTS),
+        "day_sums": (DEPUTIES, LOTS),
+        "fewest_days": (DEPUTIES, COUNT_1_TO_6),
+        "day_parting": (DEPUTIES, COUNT_1_TO_6),
+        "fair_lot": (DEPUTIES, COUNT_TO_3),
+        "shows_day_parting": (DEPUTIES, COUNT_1_TO_6, ANY),
+        "shows_fair_lot": (DEPUTIES, COUNT_TO_3, ANY)},
+    "limits": {
+        "best_naming": (SIZE, WISHES, COUNT_1_TO_6),
+        "naming_paper": (SIZE, WISHES, COUNT_1_TO_6),
+        "best_change": (DEPUTIES, TABLE, COUNT_TO_3),
+        "shows_best_naming": (SIZE, WISHES, COUNT_1_TO_6, ANY),
+        "shows_naming_paper": (SIZE, WISHES, COUNT_1_TO_6, ANY),
+        "is_settled": (DEPUTIES, TABLE, COUNT_TO_3)},
+    "randoms": {
+        "random_out": (SIZE_TO_60, COUNT_1_TO_3),
+        "random_hold": (SIZE_TO_60, COUNT_1_TO_2),
+        "random_loads": (SIZE_TO_60, COUNT_TO_3),
+        "length_chances": (COUNT_FROM_1,)},
+    "meeting": {
+        "ever_orders": (DEPUTIES, PERSON, HOLDER),
+        "last_orders": (DEPUTIES, PERSON, PERSON),
+        "meeting_orders": (DEPUTIES, PERSON, PERSON),
+        "load_chances": (DEPUTIES, PERSON),
+        "office_chances": (DEPUTIES, COUNT_TO_3),
+        "place_chances": (WEIGHTS_ALONE, PERSON),
+        "likely_order": (WEIGHTS_ALONE,)},
 }

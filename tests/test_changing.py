@@ -1,5 +1,6 @@
 """How few deputies must be changed (point 13)."""
 
+import functools
 import itertools
 import unittest
 
@@ -8,17 +9,22 @@ from firstthere.errors import BadWanted
 from tests.support import OFFICE, Case, all_deputies, all_lots, held_when, near
 
 
+@functools.lru_cache(maxsize=None)
+def rows_when(size, gone):
+    return [(deputies, held_when(deputies, gone)) for deputies in all_deputies(size)]
+
+
 def with_wanted(size, gone, wanted):
     """All deputies with whom the wanted holders hold."""
-    known = [(deputies, held_when(deputies, gone)) for deputies in all_deputies(size)]
-    return [deputies for deputies, held in known if all(held[person] == by for person, by in wanted)]
+    return [deputies for deputies, held in rows_when(size, gone) if all(held[person] == by for person, by in wanted)]
 
 
 def all_fewest(deputies, gone, wanted):
     """All pairs of the fewest changes and deputies that have them."""
     known = [(sum(map(int.__ne__, deputies, others)), others)
              for others in with_wanted(len(deputies), gone, wanted)]
-    return [pair for pair in known if pair[0] == min(known)[0]]
+    fewest = min(known, default=(0,))[0]
+    return [pair for pair in known if pair[0] == fewest]
 
 
 def all_wanted(size):

@@ -1,4 +1,4 @@
-"""The error classes, and which error comes for which wrong argument (points 1 to 15)."""
+"""The error classes, and which error comes for which wrong argument (points 1 to 21)."""
 
 import importlib
 import unittest
@@ -8,11 +8,17 @@ from firstthere.chances import ever_chance, hold_chance, mean_loads
 from firstthere.changing import fewest_changes, shows_fewest_changes
 from firstthere.costs import cheap_keepers, keeper_paper
 from firstthere.counts import chain_total, mean_chain, naming_count, office_count, ring_count
+from firstthere.days import day_sums, fair_lot, plan
 from firstthere.deputies import chain, held_by, holders, loads
+from firstthere.hands import late_end, late_moves, wins_duty
 from firstthere.leaving import in_time
+from firstthere.limits import best_change, best_naming, is_settled, naming_paper
+from firstthere.meeting import ever_orders, last_orders, meeting_orders, office_chances, place_chances
+from firstthere.moments import holding_time, moment, out_chances, record_orders
 from firstthere.naming import first_common, join_lot, reduced, renamed
 from firstthere.needed import greatest_load, load_lots
 from firstthere.orders import number_in, orders_with
+from firstthere.randoms import random_hold, random_out
 from firstthere.rings import behind, rounds
 from firstthere.sights import first_against, fits, fitting, fitting_loads, next_seen, sure_deputies
 from firstthere.telling import least_tellers, shows_unlike_ones, tells_all, told_by, unlike_ones
@@ -168,6 +174,31 @@ class WrongArguments(Case):
         self.fails(errors.BadOrder, renamed, (1, 0), (0,))
         self.fails(errors.BadPerson, first_common, (1, 0), 0, 2)
         self.fails(errors.BadPerson, join_lot, (1, 0), 2, 0)
+
+    def test_the_size_is_that_of_the_deputies_here_too(self):
+        self.fails(errors.BadOrder, moment, (1, 0), (1, 2), 0, 0)
+        self.fails(errors.BadPerson, moment, (1, 0), (1, 0), 2, 0)
+        self.fails(errors.BadPerson, moment, (1, 0), (1, 0), 0, 2)
+        self.fails(errors.BadPerson, out_chances, (1, 0), 2)
+        self.fails(errors.BadPerson, holding_time, (1, 0), 0, 2)
+        self.fails(errors.BadPlaces, record_orders, 2, (0, 2))
+        self.fails(errors.BadPerson, late_end, (-1,), 1)
+        self.fails(errors.BadLot, late_moves, (1, 0), (2,), 0)
+        self.fails(errors.BadPerson, wins_duty, (1, 0), 0, 2)
+        self.fails(errors.BadLots, plan, (1, 0), ((0,), (2,)), index=1)
+        self.fails(errors.BadLots, day_sums, (-1,), ((), (0,), (0, 1)), index=2)
+        self.fails(errors.BadCount, fair_lot, (1, 0), 3)
+        self.fails(errors.BadWishes, best_naming, 2, ((0, 0, 0),) * 3, 1)
+        self.fails(errors.BadWishes, naming_paper, 2, ((0, 0, 0, 0),) * 2, 1)
+        self.fails(errors.BadTable, best_change, (1, 0), ((0, 0, 0),), 0)
+        self.fails(errors.BadCount, is_settled, (1, 0), ((0, 0, 0),) * 2, 3)
+        self.fails(errors.BadCount, random_out, 2, 3)
+        self.fails(errors.BadCount, random_hold, 2, 2)
+        self.fails(errors.BadPerson, ever_orders, (1, 0), 2, 0)
+        self.fails(errors.BadPerson, last_orders, (1, 0), 0, 2)
+        self.fails(errors.BadPerson, meeting_orders, (1, 0), 0, 2)
+        self.fails(errors.BadCount, office_chances, (1, 0), 3)
+        self.fails(errors.BadPerson, place_chances, (1, 1, 1), 3)
 
     def test_numbers_of_people_up_to_60(self):
         for size in (1, 2, 60):

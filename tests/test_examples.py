@@ -80,6 +80,37 @@ EXAMPLES = {
 >>> [reduced((1, 2, -1, 0), (1,)), renamed((1, -1, 0), (2, 0, 1)), first_common((1, -1, 0), 2, 0), join_lot((1, -1, 0), 2, 0), join_lot((-1, -1), 0, 1)]
 [(2, 2, -1, 0), (-1, 2, 0), 0, (2,), None]
 """,
+    "moments": """
+>>> from firstthere.moments import holding_time, mean_out, moment, out_chances, record_orders
+>>> [moment((1, -1, 0), (0, 2, 1), 2, 1), moment((1, -1), (1,), 0, 1), out_chances((1, -1), 0), mean_out((1, -1), 1), holding_time((1, -1), 0, 1), record_orders(3, (0, 2))]
+[2, None, ((0, 1), (0, 1), (1, 1)), (3, 2), (1, 2), 1]
+""",
+    "hands": """
+>>> from firstthere.hands import early_end, late_end, late_moves, wins_duty
+>>> [late_end((-1, -1, 0), 0), early_end((-1, -1, 0), 0), late_moves((-1, -1, 0), (), 0), wins_duty((1, -1, 0), 2, 0)]
+[2, 1, (1, 2), True]
+""",
+    "days": """
+>>> from firstthere.days import day_parting, day_sums, fair_lot, fewest_days, plan
+>>> [plan((1, 0), ((0,), (1,))), day_sums((1, 0), ((0,), (1,))), fewest_days((1, 0), 2), day_parting((1, 0), 2), fewest_days((1, -1), 6), fair_lot((1, -1), 1)]
+[((1, 1), (0, 0)), (2, 2, 0), 2, ((0,), (1,)), None, (1, (1,))]
+""",
+    "limits": """
+>>> from firstthere.limits import best_naming, is_settled, shows_naming_paper
+>>> wishes = ((0, 4, 0, 1), (2, 0, 3, 0), (0, 6, 0, 2))
+>>> [best_naming(3, wishes, 1), is_settled((1, 2, 1), wishes, 1), shows_naming_paper(3, wishes, 1, (((1, 1), (3, 1), (3, 1)), ((0, 1), (3, 1), (0, 1))))]
+[(10, (-1, 2, 1)), True, True]
+""",
+    "randoms": """
+>>> from firstthere.randoms import length_chances, random_hold, random_loads, random_out
+>>> [random_out(3, 1), random_hold(3, 1), random_loads(2, 1), length_chances(2)]
+[(1, 3), (1, 3), ((3, 2), (1, 2)), ((1, 2), (1, 2))]
+""",
+    "meeting": """
+>>> from firstthere.meeting import ever_orders, last_orders, likely_order, load_chances, meeting_orders, office_chances, place_chances
+>>> [ever_orders((1, -1, 0), 2, 0), last_orders((1, -1, 0), 2, 1), meeting_orders((1, -1, 0), 2, 0), load_chances((1, -1), 1), office_chances((1, -1), 1), place_chances((1, 2), 0), likely_order((1, 2, 2))]
+[3, 2, 4, ((0, 1), (1, 2), (1, 2)), ((1, 2), (1, 2), (0, 1)), ((1, 3), (2, 3)), (1, 2, 0)]
+""",
 }
 
 

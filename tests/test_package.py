@@ -58,6 +58,26 @@ INTERFACE = {
     "naming": {
         "reduced": "deputies gone", "renamed": "deputies order", "first_common": "deputies one other",
         "join_lot": "deputies one other", "shows_join_lot": "deputies one other value"},
+    "moments": {
+        "moment": "deputies order person other", "out_chances": "deputies person", "mean_out": "deputies person",
+        "holding_time": "deputies person other", "record_orders": "length places"},
+    "hands": {
+        "late_end": "deputies person", "early_end": "deputies person", "late_moves": "deputies gone person",
+        "wins_duty": "deputies person other"},
+    "days": {
+        "plan": "deputies days", "day_sums": "deputies days", "fewest_days": "deputies most",
+        "day_parting": "deputies most", "fair_lot": "deputies many", "shows_day_parting": "deputies most value",
+        "shows_fair_lot": "deputies many value"},
+    "limits": {
+        "best_naming": "size wishes most", "naming_paper": "size wishes most", "best_change": "deputies table many",
+        "shows_best_naming": "size wishes most value", "shows_naming_paper": "size wishes most value",
+        "is_settled": "deputies table many"},
+    "randoms": {
+        "random_out": "size many", "random_hold": "size many", "random_loads": "size many", "length_chances": "size"},
+    "meeting": {
+        "ever_orders": "deputies person other", "last_orders": "deputies person other",
+        "meeting_orders": "deputies one other", "load_chances": "deputies person",
+        "office_chances": "deputies many", "place_chances": "weights person", "likely_order": "weights"},
 }
 
 LIBRARY = {
