@@ -4,7 +4,7 @@ from firstthere.checks import (
     MOST_PEOPLE, OFFICE, check_at_most, check_count, check_deputies, check_size, check_table, check_wishes,
     is_integer_and_deputies, is_pair)
 from firstthere.listings import put_at
-from firstthere.ratios import are_amounts, are_ratios, is_at_least, ratio, sum_of
+from firstthere.ratios import are_amounts, are_ratios, is_at_least, sum_of
 from firstthere.worths import mean_worth_of, worths_sum_of
 
 MOST_ON_PAPER = 5

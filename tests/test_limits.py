@@ -8,7 +8,7 @@ from firstthere.errors import BadCount, BadTable, BadWishes, TooMany
 from firstthere.limits import (
     best_change, best_naming, is_settled, naming_paper, shows_best_naming, shows_naming_paper)
 from tests.support import (
-    LARGE, OFFICE, ODD_VALUES, Case, all_deputies, all_lots, as_mean, few_deputies, held_when, near, some_rows)
+    OFFICE, ODD_VALUES, Case, all_deputies, all_lots, as_mean, few_deputies, held_when, near, some_rows)
 
 WISHES = ((0, 4, 0, 1), (2, 0, 3, 0), (0, 6, 0, 2))
 PAPER = (((1, 1), (3, 1), (3, 1)), ((0, 1), (3, 1), (0, 1)))
@@ -67,7 +67,8 @@ def means_near(deputies, table, many):
     """The mean worths of all deputies that differ for at most one person."""
     people = range(len(deputies))
     lots = [lot for lot in all_lots(len(deputies)) if len(lot) == many]
-    for others in ({(*deputies[:at], one, *deputies[at + 1:]) for at in people for one in (OFFICE, *people) if one != at}):
+    named = [(at, one) for at in people for one in (OFFICE, *people) if one != at]
+    for others in {(*deputies[:at], one, *deputies[at + 1:]) for at, one in named} | {deputies}:
         held = [held_when(others, lot) for lot in lots]
         yield others, as_mean([sum(wish_of(table, duty, by) for duty, by in enumerate(row)) for row in held])
 
@@ -206,7 +207,8 @@ class Papers(Case):
         naming = [(-1, 1), (0, 1), (1, 2), (1, 1), (3, 2), (2, 1), (3, 1), (4, 2), (1, 0), (3, -1)]
         named = [(0, 1), (1, 2), (1, 1), (3, 2), (2, 1), (-1, 1), (0, 2), (0, -1), (2, 2)]
         shown = 0
-        for wishes in (((9, 3, 1), (2, 9, 0)), ((0, 1, 1), (0, 0, -1)), ((0, -2, 0), (3, 0, 2)), ((0, 2, 0), (1, 0, -1))):
+        some = (((9, 3, 1), (2, 9, 0)), ((0, 1, 1), (0, 0, -1)), ((0, -2, 0), (3, 0, 2)), ((0, 2, 0), (1, 0, -1)))
+        for wishes in some:
             for most in (1, 2):
                 greatest = all_best(wishes, most)[0][0]
                 for value in itertools.product(itertools.product(naming, repeat=2), itertools.product(named, repeat=2)):

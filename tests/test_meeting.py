@@ -51,7 +51,8 @@ class WorkedOut(Case):
         self.same([last_orders(ALONE, 3, other) for other in range(6)], [0, 0, 0, 720, 0, 0])
 
     def test_meeting_orders(self):
-        self.same([meeting_orders((-1,), 0, 0), meeting_orders((-1, -1), 0, 1), meeting_orders((1, -1), 0, 1)], [1, 0, 1])
+        self.same(meeting_orders((-1,), 0, 0), 1)
+        self.same([meeting_orders(deputies, 0, 1) for deputies in ((-1, -1), (1, -1), (1, 0))], [0, 1, 2])
         self.same([meeting_orders(STAR, 0, other) for other in range(6)], [720, 240, 240, 240, 240, 360])
         self.same([meeting_orders(CHAIN, 0, other) for other in range(6)], [720, 600, 480, 360, 240, 120])
 
@@ -88,7 +89,8 @@ class AllOrders(Case):
                 lasts = [[by for by in held if by != OFFICE][-1] for held in columns]
                 for other in range(OFFICE, size):
                     with self.subTest(deputies=deputies, person=person, other=other):
-                        self.same(ever_orders(deputies, person, other), len([held for held in columns if other in held]))
+                        ever = [held for held in columns if other in held]
+                        self.same(ever_orders(deputies, person, other), len(ever))
                         if other != OFFICE:
                             self.same(last_orders(deputies, person, other), lasts.count(other))
 

@@ -136,7 +136,9 @@ class Sums(Case):
 
 class Wrong(Case):
     def test_places(self):
-        for places in ((-1,), (3,), (0, 3), (0, 0), (1, 0), (0, 2, 1), (True,), (0, True), ("0",), [0], {0: 1}, 0, None):
+        for places in ((-1,), (3,), (0, 3), (0, 0), (1, 0), (0, 2, 1), (True,), (0, True)):
+            self.fails(BadPlaces, record_orders, 3, places)
+        for places in (("0",), (None,), ((0,),), [0], {0: 1}, 0, None, "0", True):
             self.fails(BadPlaces, record_orders, 3, places)
         self.fails(BadPlaces, record_orders, 60, (0, 60))
         self.fails(BadPlaces, record_orders, 1, (0, 1))

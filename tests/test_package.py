@@ -162,6 +162,13 @@ class Language(unittest.TestCase):
                             home = PACKAGE.parent / (node.module.replace(".", "/") + ".py")
                             self.assertLessEqual(names, own_names(ast.parse(home.read_text())))
 
+    def test_all_imports_are_used(self):
+        for path in sources():
+            tree = ast.parse(path.read_text())
+            imported = {each.name for node in ast.walk(tree) if isinstance(node, ast.ImportFrom) for each in node.names}
+            with self.subTest(file=path.name):
+                self.assertFalse(imported - {node.id for node in ast.walk(tree) if isinstance(node, ast.Name)})
+
     def test_names(self):
         for path in sources():
             tree = ast.parse(path.read_text())

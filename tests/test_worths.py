@@ -133,7 +133,8 @@ class AllDeputies(Case):
                     good = all_best(size, table, many)
                     means = {mean_of(deputies, table, many) for deputies in all_deputies(size)}
                     others = [(mean, deputies) for mean in means for deputies in all_deputies(size)]
-                    for mean in ((good[0][0][0] * 2, good[0][0][1] * 2), good[0][0][:1], list(good[0][0]), good[0][0][0]):
+                    top, bottom = good[0][0]
+                    for mean in ((top * 2, bottom * 2), (top,), [top, bottom], top, (-top, -bottom)):
                         others += [(mean, deputies) for deputies in all_deputies(size)]
                     self.shows(shows_best_deputies, (size, table, many), good, others)
 
