@@ -1,13 +1,14 @@
 """What values are allowed: an `is_` or `are_` function asks, a `check_` function raises the error."""
 
 from firstthere.errors import (
-    BadCosts, BadCount, BadDeputies, BadLot, BadLots, BadOrder, BadPerson, BadPlaces, BadSights, BadSize, BadTable,
-    BadTold, BadWanted, BadWeights, BadWishes, TooMany)
+    BadCosts, BadCount, BadDates, BadDeputies, BadLot, BadLots, BadOrder, BadPerson, BadPlaces, BadSights, BadSize,
+    BadTable, BadTold, BadWanted, BadWeights, BadWishes, NotText, TooMany)
 
 OFFICE = -1
 MOST_PEOPLE = 6
 MOST_WEIGHT = 60
 MOST_COST = 1000
+MOST_DATE = 1000
 MOST_SIGHTS = 8
 MOST_LOTS = 30
 MOST_WORTH = 100
@@ -115,6 +116,11 @@ def check_deputies(value):
         raise BadDeputies("deputies are 1 to 6 integers in a tuple, each another person or -1")
 
 
+def check_deputies_of(value, size):
+    if not are_deputies_of(value, size):
+        raise BadDeputies("these deputies are of another size, or none at all")
+
+
 def check_lot(value, size):
     if not is_lot(value, size):
         raise BadLot("a lot is an ascending tuple of unlike people")
@@ -178,6 +184,18 @@ def check_costs(value, size):
         raise BadCosts("costs are a tuple of integers from 0 to 1000, one for each person")
 
 
+def check_dates(value, size):
+    if not are_integers_from(value, size, 0, MOST_DATE):
+        raise BadDates("dates are a tuple of integers from 0 to 1000, one for each person")
+
+
+def check_dates_alone(value):
+    """Dates without deputies, which would tell of how many people they are."""
+    if not isinstance(value, tuple) or not 1 <= len(value) <= MOST_PEOPLE:
+        raise BadDates("dates are a tuple of 1 to 6 integers")
+    check_dates(value, len(value))
+
+
 def check_table(value, size):
     if not are_rows_of_worths(value, size):
         raise BadTable("a table has for each duty a tuple of integers from -100 to 100, the office's last")
@@ -200,6 +218,11 @@ def check_lots(value, size):
     for index in range(len(value)):
         if not is_lot(value[index], size):
             raise BadLots(index)
+
+
+def check_text(value):
+    if not isinstance(value, str):
+        raise NotText("a text is a string")
 
 
 def check_size(value):

@@ -2,9 +2,9 @@
 
 from firstthere import errors
 from tests.wrong import (
-    HELD, LOADS, NO_COSTS, NO_COUNTS_FROM_1, NO_COUNTS_TO_3, NO_COUNTS_TO_6, NO_DEPUTIES, NO_HOLDERS, NO_LOAD_SIGHTS,
-    NO_LOTS, NO_LOTS_IN_ROWS, NO_ORDERS, NO_PEOPLE, NO_SIGHTS, NO_SIZES, NO_TABLES, NO_TOLD, NO_WANTED, NO_WEIGHTS,
-    NO_WEIGHTS_ALONE, NO_WHOLE_ORDERS, ODD_VALUES, ROWS)
+    HELD, LOADS, NO_COSTS, NO_COUNTS_FROM_1, NO_COUNTS_TO_3, NO_COUNTS_TO_6, NO_DATES_ALONE, NO_DEPUTIES,
+    NO_DEPUTIES_OF_3, NO_HOLDERS, NO_LOAD_SIGHTS, NO_LOTS, NO_LOTS_IN_ROWS, NO_ORDERS, NO_PEOPLE, NO_SIGHTS, NO_SIZES,
+    NO_TABLES, NO_TEXTS, NO_TOLD, NO_WANTED, NO_WEIGHTS, NO_WEIGHTS_ALONE, NO_WHOLE_ORDERS, ODD_VALUES, ROWS)
 
 DEPUTIES = ((1, -1, 0), errors.BadDeputies, [(value, {}) for value in NO_DEPUTIES])
 PERSON = (2, errors.BadPerson, [(value, {}) for value in NO_PEOPLE])
@@ -32,6 +32,10 @@ LOTS = (((0, 1), (), (0, 1)), errors.BadLots, [(value, {"index": index}) for val
 TABLE = (ROWS, errors.BadTable, [(value, {}) for value in NO_TABLES])
 WISHES = (ROWS, errors.BadWishes, [(value, {}) for value in NO_TABLES])
 WANTED = (((0, 2), (2, -1)), errors.BadWanted, [(value, {"index": index}) for value, index in NO_WANTED])
+DEPUTIES_OF_3 = ((-1, 0, 0), errors.BadDeputies, [(value, {}) for value in NO_DEPUTIES_OF_3])
+DATES = ((0, 1000, 7), errors.BadDates, [(value, {}) for value in NO_COSTS])
+DATES_ALONE = ((0, 1000, 7), errors.BadDates, [(value, {}) for value in NO_DATES_ALONE])
+TEXT = ("2>0 0>1 1>-", errors.NotText, [(value, {}) for value in NO_TEXTS])
 # The last argument of a `shows` function: no value of it is wrong.
 ANY = (None, None, [(value, {}) for value in ODD_VALUES])
 
@@ -168,4 +172,26 @@ ARGUMENTS = {
         "office_chances": (DEPUTIES, COUNT_TO_3),
         "place_chances": (WEIGHTS_ALONE, PERSON),
         "likely_order": (WEIGHTS_ALONE,)},
+    "nets": {
+        "cheap_order": (DEPUTIES, COSTS),
+        "best_lot": (DEPUTIES, TABLE, COSTS),
+        "order_cost": (DEPUTIES, COSTS, ORDER),
+        "shows_cheap_order": (DEPUTIES, COSTS, ANY),
+        "shows_best_lot": (DEPUTIES, TABLE, COSTS, ANY)},
+    "closed": {
+        "closed_lots": (DEPUTIES,),
+        "unlike_lots": (DEPUTIES, DEPUTIES_OF_3),
+        "closure": (DEPUTIES, LOT),
+        "beside": (DEPUTIES, DEPUTIES)},
+    "texts": {
+        "write_deputies": (DEPUTIES,),
+        "read_deputies": (TEXT,)},
+    "offices": {
+        "Office": (DEPUTIES,)},
+    "dates": {
+        "order_by": (DATES_ALONE,),
+        "duty_days": (DEPUTIES, DATES),
+        "spans": (DEPUTIES, DATES, PERSON),
+        "busiest_date": (DEPUTIES, DATES),
+        "out_date": (DEPUTIES, DATES, PERSON)},
 }

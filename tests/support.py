@@ -148,6 +148,21 @@ def near(value):
     return rows + changed
 
 
+def changed_texts(text, characters):
+    """The texts with one character put in, taken out, or changed to another one of these."""
+    for at in range(len(text) + 1):
+        yield from (text[:at] + one + text[at:] for one in characters)
+        yield from (text[:at] + one + text[at + 1:] for one in ("", *characters))
+
+
+def first_digit(text, place):
+    """The place of the first digit of the number that has a digit at the place, the place itself otherwise."""
+    digits = "0123456789"
+    while place > 0 and text[place] in digits and text[place - 1] in digits:
+        place -= 1
+    return place
+
+
 class Case(unittest.TestCase):
     def same(self, got, expected):
         """Equal, and of equal kinds: True is not 1, a list is no tuple."""

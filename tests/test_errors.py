@@ -1,4 +1,4 @@
-"""The error classes, and which error comes for which wrong argument (points 1 to 21)."""
+"""The error classes, and which error comes for which wrong argument (points 1 to 26)."""
 
 import importlib
 import unittest
@@ -6,8 +6,10 @@ import unittest
 from firstthere import errors
 from firstthere.chances import ever_chance, hold_chance, mean_loads
 from firstthere.changing import fewest_changes, shows_fewest_changes
+from firstthere.closed import beside, closure, unlike_lots
 from firstthere.costs import cheap_keepers, keeper_paper
 from firstthere.counts import chain_total, mean_chain, naming_count, office_count, ring_count
+from firstthere.dates import busiest_date, duty_days, order_by, out_date, spans
 from firstthere.days import day_sums, fair_lot, plan
 from firstthere.deputies import chain, held_by, holders, loads
 from firstthere.hands import late_end, late_moves, wins_duty
@@ -17,6 +19,8 @@ from firstthere.meeting import ever_orders, last_orders, meeting_orders, office_
 from firstthere.moments import holding_time, moment, out_chances, record_orders
 from firstthere.naming import first_common, join_lot, reduced, renamed
 from firstthere.needed import greatest_load, load_lots
+from firstthere.nets import best_lot, cheap_order, order_cost
+from firstthere.offices import Office
 from firstthere.orders import number_in, orders_with
 from firstthere.randoms import random_hold, random_out
 from firstthere.rings import behind, rounds
@@ -87,6 +91,13 @@ def wrong_ones(kinds):
     return [(at, error, wrong) for at, (_, error, wrong) in enumerate(kinds) if error is not None]
 
 
+def as_told(answer):
+    """An office as what it tells; any other answer as it is."""
+    if isinstance(answer, Office):
+        return (answer.holders(), answer.gone(), answer.order())
+    return answer
+
+
 class WrongArguments(Case):
     def test_all_functions_are_asked(self):
         self.assertEqual(list(ARGUMENTS), list(INTERFACE))
@@ -99,7 +110,7 @@ class WrongArguments(Case):
         for call, *kinds in FUNCTIONS:
             with self.subTest(call=call.__name__):
                 values = [kind[0] for kind in kinds]
-                self.same(call(*values), call(*values))
+                self.same(as_told(call(*values)), as_told(call(*values)))
 
     def test_one_wrong_argument(self):
         for call, *kinds in FUNCTIONS:
@@ -200,6 +211,21 @@ class WrongArguments(Case):
         self.fails(errors.BadCount, office_chances, (1, 0), 3)
         self.fails(errors.BadPerson, place_chances, (1, 1, 1), 3)
 
+    def test_the_size_is_that_of_the_first_argument(self):
+        self.fails(errors.BadCosts, cheap_order, (1, 0), (1, 1, 1))
+        self.fails(errors.BadCosts, order_cost, (1, 0), (1,), ())
+        self.fails(errors.BadOrder, order_cost, (1, 0), (1, 1), (2,))
+        self.fails(errors.BadTable, best_lot, (1, 0), ((0, 0, 0),) * 3, (1, 1))
+        self.fails(errors.BadCosts, best_lot, (1, 0), ((0, 0, 0),) * 2, (1, 1, 1))
+        self.fails(errors.BadDeputies, unlike_lots, (1, 0), (1, 2, 0))
+        self.fails(errors.BadLot, closure, (1, 0), (2,))
+        self.fails(errors.BadPerson, Office((1, 0)).leave, 2)
+        self.fails(errors.BadDates, spans, (1, 0), (1, 1, 1), 2)
+        self.fails(errors.BadPerson, spans, (1, 0), (1, 1), 2)
+        self.fails(errors.BadDates, out_date, (1, 0), (1,), 0)
+        self.fails(errors.BadDates, duty_days, (1, 0), (1, 1, 1))
+        self.fails(errors.BadDates, busiest_date, (-1,), (1, 1))
+
     def test_numbers_of_people_up_to_60(self):
         for size in (1, 2, 60):
             for many in (0, size):
@@ -230,9 +256,11 @@ class WrongArguments(Case):
         for size in range(1, 7):
             self.same(rounds((-1,) * size), ())
             self.same(order_chance((60,) * size, ()), (1, 1))
+            self.same(order_by((1000,) * size), tuple(range(size)))
         for size in (0, 7, 8, 60):
             self.fails(errors.BadDeputies, rounds, (-1,) * size)
             self.fails(errors.BadWeights, order_chance, (60,) * size, ())
+            self.fails(errors.BadDates, order_by, (1000,) * size)
             self.fails(errors.BadSize, fitting, size, (((), ()),))
 
 
@@ -273,6 +301,13 @@ class TooManyPeople(Case):
                     self.fails(errors.TooMany, shows_best_deputies, size, table, many, value, most=4)
             for value in ((0, deputies), None, 1):
                 self.fails(errors.TooMany, shows_fewest_changes, deputies, (), (), value, most=4)
+
+    def test_7_people_together(self):
+        for one, other in (((-1,) * 6, (-1,)), ((-1,), (-1,) * 6), ((1, 0, 0, 0), (1, 2, 0)), ((-1,) * 6, (-1,) * 6)):
+            self.fails(errors.TooMany, beside, one, other, most=6)
+        for value in NO_DEPUTIES:
+            self.fails(errors.BadDeputies, beside, (-1,) * 6, value)
+            self.fails(errors.BadDeputies, beside, value, (-1,) * 6)
 
     def test_all_other_errors_come_before_it(self):
         for size in (5, 6):

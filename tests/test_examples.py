@@ -3,6 +3,9 @@
 import doctest
 import unittest
 
+from firstthere.errors import InvalidText
+from firstthere.texts import read_deputies
+
 EXAMPLES = {
     "deputies": """
 >>> from firstthere.deputies import chain, held_by, holder, holders, loads
@@ -111,6 +114,32 @@ EXAMPLES = {
 >>> [ever_orders((1, -1, 0), 2, 0), last_orders((1, -1, 0), 2, 1), meeting_orders((1, -1, 0), 2, 0), load_chances((1, -1), 1), office_chances((1, -1), 1), place_chances((1, 2), 0), likely_order((1, 2, 2))]
 [3, 2, 4, ((0, 1), (1, 2), (1, 2)), ((1, 2), (1, 2), (0, 1)), ((1, 3), (2, 3)), (1, 2, 0)]
 """,
+    "nets": """
+>>> from firstthere.nets import best_lot, cheap_order, order_cost
+>>> [order_cost((1, -1), (2, 5), (0, 1)), cheap_order((1, -1), (2, 5)), best_lot((1, -1), ((0, 4, 0), (0, 1, 0)), (1, 1))]
+[12, (7, (1, 0)), (4, (0,))]
+""",
+    "closed": """
+>>> from firstthere.closed import beside, closed_lots, closure, unlike_lots
+>>> [closed_lots((1, -1, 0)), closure((1, -1, 0), (0,)), unlike_lots((1, -1), (-1, -1)), beside((1, -1), (1, 0))]
+[((), (0, 1), (0, 1, 2), (1,)), (0, 1), ((0,),), (1, -1, 3, 2)]
+""",
+    "texts": """
+>>> from firstthere.texts import read_deputies, write_deputies
+>>> [write_deputies((1, -1, 0)), read_deputies('2>0 0 > 1 1>-')]
+['0>1 1>- 2>0', (1, -1, 0)]
+""",
+    "offices": """
+>>> from firstthere.offices import Office
+>>> office = Office((1, -1, 0))
+>>> [office.leave(2), office.leave(0), office.holders(), office.gone(), office.order(), office.undo(), office.holders()]
+[((2, 0),), ((0, 1), (2, 1)), (1, 1, 1), (0, 2), (2, 0), None, (0, 1, 0)]
+""",
+    "dates": """
+>>> from firstthere.dates import busiest_date, duty_days, order_by, out_date, spans
+>>> [order_by((5, 2, 5)), spans((1, -1, 0), (3, 9, 0), 2), duty_days((1, -1, 0), (3, 9, 0)), busiest_date((1, -1, 0), (3, 9, 0)), out_date((1, -1, 0), (3, 9, 0), 2)]
+[(1, 0, 2), ((0, 0, 3), (1, 3, 9)), (6, 21, 0), (3, 3), 9]
+""",
 }
 
 
@@ -122,6 +151,11 @@ class Examples(unittest.TestCase):
                 told = []
                 failed, tried = doctest.DocTestRunner().run(test, out=told.append)
                 self.assertEqual((failed, tried), (0, text.count(">>>")), "".join(told))
+
+    def test_the_example_that_raises(self):
+        with self.assertRaises(InvalidText) as caught:
+            read_deputies('0>1 1>1')
+        self.assertEqual(vars(caught.exception), {"place": 6})
 
 
 if __name__ == "__main__":

@@ -78,7 +78,21 @@ INTERFACE = {
         "ever_orders": "deputies person other", "last_orders": "deputies person other",
         "meeting_orders": "deputies one other", "load_chances": "deputies person",
         "office_chances": "deputies many", "place_chances": "weights person", "likely_order": "weights"},
+    "nets": {
+        "cheap_order": "deputies costs", "best_lot": "deputies table costs", "order_cost": "deputies costs order",
+        "shows_cheap_order": "deputies costs value", "shows_best_lot": "deputies table costs value"},
+    "closed": {
+        "closed_lots": "deputies", "unlike_lots": "one other", "closure": "deputies lot", "beside": "one other"},
+    "texts": {
+        "write_deputies": "deputies", "read_deputies": "text"},
+    "offices": {
+        "Office": "deputies"},
+    "dates": {
+        "order_by": "dates", "duty_days": "deputies dates", "spans": "deputies dates person",
+        "busiest_date": "deputies dates", "out_date": "deputies dates person"},
 }
+
+METHODS = {"leave": "self person", "holders": "self", "gone": "self", "order": "self", "undo": "self"}
 
 LIBRARY = {
     "heapq": {"heappush", "heappop", "heapify", "heapreplace", "heappushpop"},
@@ -123,6 +137,16 @@ class Interface(unittest.TestCase):
                     found = getattr(module, function)
                     self.assertEqual(found.__module__, "firstthere." + name)
                     self.assertEqual(list(inspect.signature(found).parameters), parameters.split())
+
+
+    def test_each_method_stands_in_its_class(self):
+        office = importlib.import_module("firstthere.offices").Office
+        self.assertTrue(inspect.isclass(office))
+        for method, parameters in METHODS.items():
+            with self.subTest(method=method):
+                found = vars(office)[method]
+                self.assertEqual(found.__qualname__, "Office." + method)
+                self.assertEqual(list(inspect.signature(found).parameters), parameters.split())
 
 
 class Language(unittest.TestCase):

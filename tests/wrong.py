@@ -123,3 +123,14 @@ def no_wanted():
 
 
 NO_WANTED = no_wanted()
+
+
+# Deputies of three people are asked for; these are allowed ones of another size, or none at all.
+NO_DEPUTIES_OF_3 = NO_DEPUTIES + ((-1,), (1, 0), (1, -1), (-1, -1, -1, -1), (1, 2, 3, 0), (1, 2, 0, -1, -1, -1))
+NO_DATES_ALONE = NO_COSTS[:len(ODD_VALUES)] + (
+    (), 0, 1, 1000, (-1,), (1001,), (-5, 0), (0, 1001), (0, 5000, 0), (True, 0), (0, 1, False), (0, "1"), (None, 0),
+    (0, (1,)), ([0], 1), [0, 1, 2], [0], {0: 0, 1: 1}, "012", (0,) * 7, (1000,) * 8,
+)
+NO_TEXTS = tuple(value for value in ODD_VALUES if not isinstance(value, str)) + (
+    0, 1, -1, (), ("0>-",), ["0>-"], {"0>-": "0>-"}, {0: "0>-"}, (("0>-",),),
+)
