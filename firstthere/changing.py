@@ -14,10 +14,26 @@ def are_held_as_wanted(deputies, gone, wanted):
     return all(holder_of(deputies, gone, person) == by for person, by in wanted)
 
 
+def changes_to(deputies, found):
+    """The pairs (changes, others) of each of the other deputies that were found."""
+    return [(change_count(deputies, others), others) for others in found]
+
+
+def fewest_of(pairs):
+    return min(pairs, default=None)
+
+
+def is_fewest(pairs, size, value):
+    """Whether the value is one of the pairs with the fewest changes, or None if there are no pairs."""
+    if not pairs:
+        return value is None
+    return is_integer_and_deputies(value, size) and value in pairs and value[0] == min(pairs)[0]
+
+
 def changes_for(deputies, gone, wanted):
     """The pairs (changes, others) of all deputies with whom the duties are held as wanted."""
     found = [others for others in all_deputies(len(deputies)) if are_held_as_wanted(others, gone, wanted)]
-    return [(change_count(deputies, others), others) for others in found]
+    return changes_to(deputies, found)
 
 
 def fewest_changes(deputies, gone, wanted):
@@ -26,10 +42,7 @@ def fewest_changes(deputies, gone, wanted):
     check_lot(gone, len(deputies))
     check_wanted(wanted, len(deputies))
     check_at_most(len(deputies), MOST_SOUGHT)
-    found = changes_for(deputies, gone, wanted)
-    if not found:
-        return None
-    return min(found)
+    return fewest_of(changes_for(deputies, gone, wanted))
 
 
 def shows_fewest_changes(deputies, gone, wanted, value):
@@ -38,7 +51,4 @@ def shows_fewest_changes(deputies, gone, wanted, value):
     check_lot(gone, len(deputies))
     check_wanted(wanted, len(deputies))
     check_at_most(len(deputies), MOST_SOUGHT)
-    found = changes_for(deputies, gone, wanted)
-    if not found:
-        return value is None
-    return is_integer_and_deputies(value, len(deputies)) and value in found and value[0] == min(found)[0]
+    return is_fewest(changes_for(deputies, gone, wanted), len(deputies), value)

@@ -1,14 +1,16 @@
 """What values are allowed: an `is_` or `are_` function asks, a `check_` function raises the error."""
 
 from firstthere.errors import (
-    BadCosts, BadCount, BadDates, BadDeputies, BadLot, BadLots, BadOrder, BadPerson, BadPlaces, BadSights, BadSize,
-    BadTable, BadTold, BadWanted, BadWeights, BadWishes, NotText, TooMany)
+    BadCosts, BadCount, BadDates, BadDeputies, BadLimits, BadLot, BadLots, BadOrder, BadPerson, BadPlaces, BadSights,
+    BadSize, BadSizes, BadTable, BadTold, BadWanted, BadWeights, BadWishes, NotText, TooMany)
 
 OFFICE = -1
 MOST_PEOPLE = 6
 MOST_WEIGHT = 60
 MOST_COST = 1000
 MOST_DATE = 1000
+MOST_SIZE = 1000
+MOST_LIMIT = 6000
 MOST_SIGHTS = 8
 MOST_LOTS = 30
 MOST_WORTH = 100
@@ -194,6 +196,16 @@ def check_dates_alone(value):
     if not isinstance(value, tuple) or not 1 <= len(value) <= MOST_PEOPLE:
         raise BadDates("dates are a tuple of 1 to 6 integers")
     check_dates(value, len(value))
+
+
+def check_sizes(value, size):
+    if not are_integers_from(value, size, 0, MOST_SIZE):
+        raise BadSizes("sizes are a tuple of integers from 0 to 1000, one for each duty")
+
+
+def check_limits(value, size):
+    if not are_integers_from(value, size, 0, MOST_LIMIT):
+        raise BadLimits("limits are a tuple of integers from 0 to 6000, one for each person")
 
 
 def check_table(value, size):

@@ -25,6 +25,11 @@ def sum_of(ratios):
     return (top, bottom)
 
 
+def less(one, other):
+    """The first ratio less the second one."""
+    return sum_of([one, (-other[0], other[1])])
+
+
 def mean_place(chances):
     """The mean of 0, 1, 2, .. that come by these chances."""
     return sum_of([ratio(place * top, bottom) for place, (top, bottom) in enumerate(chances)])

@@ -3,8 +3,9 @@
 from firstthere import errors
 from tests.wrong import (
     HELD, LOADS, NO_COSTS, NO_COUNTS_FROM_1, NO_COUNTS_TO_3, NO_COUNTS_TO_6, NO_DATES_ALONE, NO_DEPUTIES,
-    NO_DEPUTIES_OF_3, NO_HOLDERS, NO_LOAD_SIGHTS, NO_LOTS, NO_LOTS_IN_ROWS, NO_ORDERS, NO_PEOPLE, NO_SIGHTS, NO_SIZES,
-    NO_TABLES, NO_TEXTS, NO_TOLD, NO_WANTED, NO_WEIGHTS, NO_WEIGHTS_ALONE, NO_WHOLE_ORDERS, ODD_VALUES, ROWS)
+    NO_DEPUTIES_OF_3, NO_HOLDERS, NO_LIMITS, NO_LOAD_SIGHTS, NO_LOTS, NO_LOTS_IN_ROWS, NO_LOTS_OF_6_IN_ROWS, NO_ORDERS,
+    NO_PEOPLE, NO_SIGHTS, NO_SIZES, NO_TABLES, NO_TEXTS, NO_TOLD, NO_WANTED, NO_WEIGHTS, NO_WEIGHTS_ALONE,
+    NO_WHOLE_ORDERS, ODD_VALUES, ROWS)
 
 DEPUTIES = ((1, -1, 0), errors.BadDeputies, [(value, {}) for value in NO_DEPUTIES])
 PERSON = (2, errors.BadPerson, [(value, {}) for value in NO_PEOPLE])
@@ -35,7 +36,16 @@ WANTED = (((0, 2), (2, -1)), errors.BadWanted, [(value, {"index": index}) for va
 DEPUTIES_OF_3 = ((-1, 0, 0), errors.BadDeputies, [(value, {}) for value in NO_DEPUTIES_OF_3])
 DATES = ((0, 1000, 7), errors.BadDates, [(value, {}) for value in NO_COSTS])
 DATES_ALONE = ((0, 1000, 7), errors.BadDates, [(value, {}) for value in NO_DATES_ALONE])
+RATES = ((1, 60, 7), errors.BadWeights, [(value, {}) for value in NO_WEIGHTS])
+RATES_ALONE = ((1, 60, 7), errors.BadWeights, [(value, {}) for value in NO_WEIGHTS_ALONE])
+LOT_OF_SOME = ((0, 1), errors.BadLot, [(value, {}) for value in NO_LOTS + ((),)])
+COUNT_0_TO_3 = (3, errors.BadCount, [(value, {}) for value in NO_COUNTS_TO_6 + (4, 5, 6)])
+LOTS_OF_6 = (
+    ((0, 5), (), (0, 5)), errors.BadLots, [(value, {"index": index}) for value, index in NO_LOTS_OF_6_IN_ROWS])
+SIZES = ((0, 1000, 7), errors.BadSizes, [(value, {}) for value in NO_COSTS])
+LIMITS = ((0, 6000, 1001), errors.BadLimits, [(value, {}) for value in NO_LIMITS])
 TEXT = ("2>0 0>1 1>-", errors.NotText, [(value, {}) for value in NO_TEXTS])
+LOTS_TEXT = ("2 0/-", errors.NotText, [(value, {}) for value in NO_TEXTS])
 # The last argument of a `shows` function: no value of it is wrong.
 ANY = (None, None, [(value, {}) for value in ODD_VALUES])
 
@@ -194,4 +204,66 @@ ARGUMENTS = {
         "spans": (DEPUTIES, DATES, PERSON),
         "busiest_date": (DEPUTIES, DATES),
         "out_date": (DEPUTIES, DATES, PERSON)},
+    "rates": {
+        "mean_stay": (RATES_ALONE, LOT_OF_SOME),
+        "mean_out_by": (DEPUTIES, RATES, PERSON),
+        "mean_hold_by": (DEPUTIES, RATES, PERSON, PERSON),
+        "load_times": (DEPUTIES, RATES)},
+    "sure": {
+        "least_chain": (DEPUTIES,),
+        "surest": (DEPUTIES,),
+        "sure_count": (SIZE_TO_60, COUNT_TO_3),
+        "fewest_sure": (DEPUTIES, COUNT_0_TO_3),
+        "shows_fewest_sure": (DEPUTIES, COUNT_0_TO_3, ANY),
+        "spread": (DEPUTIES, COUNT_TO_3),
+        "both_out": (DEPUTIES, COUNT_TO_3, PERSON, PERSON)},
+    "doubts": {
+        "deputy_chances": (SIZE, SIGHTS, PERSON),
+        "holder_chances": (SIZE, SIGHTS, LOT, PERSON)},
+    "lottexts": {
+        "write_lots": (LOTS_OF_6,),
+        "read_lots": (LOTS_TEXT,)},
+    "sized": {
+        "sized_loads": (DEPUTIES, SIZES, LOT),
+        "can_leave": (DEPUTIES, SIZES, LIMITS, LOT),
+        "shows_largest_leave": (DEPUTIES, SIZES, LIMITS, ANY),
+        "largest_leave": (DEPUTIES, SIZES, LIMITS),
+        "leave_count": (DEPUTIES, SIZES, LIMITS)},
+    "shapes": {
+        "most_handings": (DEPUTIES,),
+        "shows_most_handings": (DEPUTIES, ANY),
+        "alike": (DEPUTIES, DEPUTIES_OF_3),
+        "shape": (DEPUTIES,),
+        "own_names": (DEPUTIES,),
+        "told_chance": (DEPUTIES, WEIGHTS, TOLD),
+        "handing_chances_by": (DEPUTIES, WEIGHTS, PERSON)},
 }
+
+
+def too_many(size):
+    """Of each function that names `TooMany`: its file, its most, and allowed arguments for so many people."""
+    people = tuple(range(size))
+    deputies = (-1,) * size
+    rows = ((0,) * (size + 1),) * size
+    seen = (((), people),)
+    found = {
+        "fitting": ("sights", 4, size, seen),
+        "sure_deputies": ("sights", 4, size, seen),
+        "next_seen": ("sights", 4, size, seen, people),
+        "first_against": ("sights", 4, size, seen),
+        "fitting_loads": ("sights", 4, size, (((), (1,) * size + (0,)),)),
+        "least_tellers": ("telling", 4, size),
+        "told_by": ("telling", 4, deputies, (people,)),
+        "best_deputies": ("worths", 4, size, rows, size),
+        "shows_best_deputies": ("worths", 4, size, rows, size, ((0, 1), deputies)),
+        "fewest_changes": ("changing", 4, deputies, people, ((0, -1),)),
+        "shows_fewest_changes": ("changing", 4, deputies, people, ((0, -1),), (0, deputies)),
+        "naming_paper": ("limits", 5, size, rows, 6),
+        "shows_naming_paper": ("limits", 5, size, rows, 6, (((0, 1),) * size,) * 2),
+        "beside": ("closed", 6, deputies, (-1,) * 6),
+        "fewest_sure": ("sure", 4, deputies, 3),
+        "shows_fewest_sure": ("sure", 4, deputies, 3, None),
+        "deputy_chances": ("doubts", 4, size, seen, size - 1),
+        "holder_chances": ("doubts", 4, size, seen, people, size - 1),
+    }
+    return {function: row for function, row in found.items() if row[1] != 5 or size == 6}

@@ -120,6 +120,28 @@ def as_mean(numbers):
     return as_ratio(sum(numbers), len(numbers))
 
 
+@functools.lru_cache(maxsize=None)
+def chance_of_each(weights):
+    """The chance of each whole order: one by one, each next one with its part of the weights that are left."""
+    found = {}
+
+    def go_on(order, chance):
+        left = [person for person in range(len(weights)) if person not in order]
+        if not left:
+            found[order] = chance
+        for person in left:
+            part = fractions.Fraction(weights[person], sum(weights[one] for one in left))
+            go_on((*order, person), chance * part)
+
+    go_on((), fractions.Fraction(1))
+    return found
+
+
+def chance_that(weights, holds):
+    """The chance that a whole order is one for which this holds."""
+    return as_ratio(sum((chance for order, chance in chance_of_each(weights).items() if holds(order)), 0))
+
+
 def some_rows(size):
     """Rows of what each holding is worth: nothing, the ends of the range, and others."""
     everything = (-100, 100, 0, 1, -1, 37, 64, -53, 99, -7, 12)

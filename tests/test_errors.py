@@ -1,6 +1,7 @@
-"""The error classes, and which error comes for which wrong argument (points 1 to 26)."""
+"""The error classes, and which error comes for which wrong argument (points 1 to 32)."""
 
 import importlib
+import inspect
 import unittest
 
 from firstthere import errors
@@ -12,6 +13,7 @@ from firstthere.counts import chain_total, mean_chain, naming_count, office_coun
 from firstthere.dates import busiest_date, duty_days, order_by, out_date, spans
 from firstthere.days import day_sums, fair_lot, plan
 from firstthere.deputies import chain, held_by, holders, loads
+from firstthere.doubts import deputy_chances, holder_chances
 from firstthere.hands import late_end, late_moves, wins_duty
 from firstthere.leaving import in_time
 from firstthere.limits import best_change, best_naming, is_settled, naming_paper
@@ -23,13 +25,17 @@ from firstthere.nets import best_lot, cheap_order, order_cost
 from firstthere.offices import Office
 from firstthere.orders import number_in, orders_with
 from firstthere.randoms import random_hold, random_out
+from firstthere.rates import load_times, mean_hold_by, mean_out_by, mean_stay
 from firstthere.rings import behind, rounds
+from firstthere.shapes import alike, handing_chances_by, told_chance
 from firstthere.sights import first_against, fits, fitting, fitting_loads, next_seen, sure_deputies
+from firstthere.sized import can_leave, largest_leave, leave_count, sized_loads
+from firstthere.sure import both_out, fewest_sure, spread, sure_count
 from firstthere.telling import least_tellers, shows_unlike_ones, tells_all, told_by, unlike_ones
 from firstthere.weights import (
     ahead_chance, ever_chance_by, hold_chances_by, lot_chance, mean_handings_by, order_chance)
 from firstthere.worths import best_deputies, best_order, mean_worth, order_total, shows_best_deputies, worth
-from tests.kinds import ANY, ARGUMENTS
+from tests.kinds import ANY, ARGUMENTS, too_many
 from tests.support import Case
 from tests.test_package import INTERFACE
 from tests.wrong import NO_COSTS, NO_DEPUTIES, NO_LOTS, ODD_VALUES
@@ -129,13 +135,15 @@ class WrongArguments(Case):
                         behind_it = [kind[2][later * 5][0] for kind in kinds[at + 1:]]
                         self.fails(error, call, *before, value, *behind_it, **fields)
 
-    def test_only_a_later_one_besides(self):
+    def test_two_at_once(self):
         for call, *kinds in FUNCTIONS:
             for at, error, wrong in wrong_ones(kinds):
                 for later in range(at + 1, len(kinds)):
-                    values = [kind[0] for kind in kinds]
-                    values[at], values[later] = wrong[3][0], kinds[later][2][3][0]
-                    self.fails(error, call, *values, **wrong[3][1])
+                    for value, fields in wrong[::6]:
+                        for other, _ in kinds[later][2][2:12:3]:
+                            values = [kind[0] for kind in kinds]
+                            values[at], values[later] = value, other
+                            self.fails(error, call, *values, **fields)
 
     def test_shows_returns_true_or_false_for_any_value(self):
         for call, *kinds in FUNCTIONS:
@@ -225,6 +233,28 @@ class WrongArguments(Case):
         self.fails(errors.BadDates, out_date, (1, 0), (1,), 0)
         self.fails(errors.BadDates, duty_days, (1, 0), (1, 1, 1))
         self.fails(errors.BadDates, busiest_date, (-1,), (1, 1))
+        self.fails(errors.BadLot, mean_stay, (1, 1), (2,))
+        self.fails(errors.BadWeights, mean_out_by, (1, 0), (1, 1, 1), 2)
+        self.fails(errors.BadPerson, mean_out_by, (1, 0), (1, 1), 2)
+        self.fails(errors.BadPerson, mean_hold_by, (1, 0), (1, 1), 0, 2)
+        self.fails(errors.BadWeights, load_times, (-1,), (1, 1))
+        self.fails(errors.BadCount, sure_count, 2, 3)
+        self.fails(errors.BadCount, spread, (1, 0), 3)
+        self.fails(errors.BadPerson, both_out, (1, 0), 2, 0, 2)
+        self.fails(errors.BadSights, deputy_chances, 2, (((), (0, 1, 2)),), 2, index=0)
+        self.fails(errors.BadPerson, deputy_chances, 2, (((), (0, 1)),), 2)
+        self.fails(errors.BadLot, holder_chances, 2, (((), (0, 1)),), (2,), 2)
+        self.fails(errors.BadPerson, holder_chances, 2, (((), (0, 1)),), (1,), 2)
+        self.fails(errors.BadSizes, sized_loads, (1, 0), (1, 1, 1), (2,))
+        self.fails(errors.BadLot, sized_loads, (1, 0), (1, 1), (2,))
+        self.fails(errors.BadLimits, can_leave, (1, 0), (1, 1), (1, 1, 1), (2,))
+        self.fails(errors.BadLot, can_leave, (1, 0), (1, 1), (1, 1), (2,))
+        self.fails(errors.BadLimits, largest_leave, (1, 0), (1, 1), (1,))
+        self.fails(errors.BadLimits, leave_count, (-1,), (1,), (1, 1))
+        self.fails(errors.BadDeputies, alike, (1, 0), (1, 2, 0))
+        self.fails(errors.BadWeights, told_chance, (1, 0), (1, 1, 1), ())
+        self.fails(errors.BadTold, told_chance, (1, 0), (1, 1), ((0, (0, 2)),), index=0)
+        self.fails(errors.BadPerson, handing_chances_by, (1, 0), (1, 1), 2)
 
     def test_numbers_of_people_up_to_60(self):
         for size in (1, 2, 60):
@@ -264,7 +294,26 @@ class WrongArguments(Case):
             self.fails(errors.BadSize, fitting, size, (((), ()),))
 
 
+def is_always_wrong(value):
+    """Whether the value is wrong for any number of people, in the place of any argument that is no text."""
+    return isinstance(value, bool) or not isinstance(value, (int, tuple))
+
+
 class TooManyPeople(Case):
+    def test_those_that_name_it(self):
+        named = [call.__name__ for call, *_ in FUNCTIONS if "check_at_most(" in inspect.getsource(call)]
+        self.assertEqual(sorted(named), sorted(too_many(6)))
+
+    def test_too_many_comes_behind_each_other_error(self):
+        for size in (5, 6):
+            for function, (name, most, *values) in too_many(size).items():
+                call = getattr(importlib.import_module("firstthere." + name), function)
+                self.fails(errors.TooMany, call, *values, most=most)
+                for at, error, wrong in wrong_ones(ARGUMENTS[name][function]):
+                    for value, fields in wrong:
+                        if is_always_wrong(value):
+                            self.fails(error, call, *values[:at], value, *values[at + 1:], **fields)
+
     def test_sizes_of_5_and_6(self):
         for size in (5, 6):
             people = tuple(range(size))
@@ -301,6 +350,12 @@ class TooManyPeople(Case):
                     self.fails(errors.TooMany, shows_best_deputies, size, table, many, value, most=4)
             for value in ((0, deputies), None, 1):
                 self.fails(errors.TooMany, shows_fewest_changes, deputies, (), (), value, most=4)
+
+    def test_counts_up_to_3_are_so_for_few_people_too(self):
+        for many in range(4):
+            self.same(fewest_sure((-1,), many), (0, (-1,)) if many == 0 else None)
+        self.fails(errors.BadCount, fewest_sure, (-1,), 4)
+        self.fails(errors.BadCount, fewest_sure, (-1,), -1)
 
     def test_7_people_together(self):
         for one, other in (((-1,) * 6, (-1,)), ((-1,), (-1,) * 6), ((1, 0, 0, 0), (1, 2, 0)), ((-1,) * 6, (-1,) * 6)):

@@ -140,6 +140,36 @@ EXAMPLES = {
 >>> [order_by((5, 2, 5)), spans((1, -1, 0), (3, 9, 0), 2), duty_days((1, -1, 0), (3, 9, 0)), busiest_date((1, -1, 0), (3, 9, 0)), out_date((1, -1, 0), (3, 9, 0), 2)]
 [(1, 0, 2), ((0, 0, 3), (1, 3, 9)), (6, 21, 0), (3, 3), 9]
 """,
+    "rates": """
+>>> from firstthere.rates import load_times, mean_hold_by, mean_out_by, mean_stay
+>>> [mean_stay((1, 2), (0, 1)), mean_out_by((1, -1), (1, 2), 1), mean_hold_by((1, -1), (1, 2), 0, 1), load_times((1, -1), (1, 2))]
+[(7, 6), (1, 2), (1, 6), ((1, 1), (2, 3))]
+""",
+    "sure": """
+>>> from firstthere.sure import both_out, fewest_sure, least_chain, spread, sure_count, surest
+>>> [least_chain((1, 0, 1)), surest((1, 0, 1)), sure_count(3, 1), fewest_sure((1, -1), 1), spread((1, -1), 1), both_out((1, -1), 2, 0, 1)]
+[2, 1, 8, (1, (1, 0)), (1, 4), (1, 1)]
+""",
+    "doubts": """
+>>> from firstthere.doubts import deputy_chances, holder_chances
+>>> [deputy_chances(2, (((0,), (1, 1)),), 1), holder_chances(2, (((0,), (1, 1)),), (1,), 1)]
+[((1, 2), (0, 1), (1, 2)), ((1, 2), (0, 1), (1, 2))]
+""",
+    "lottexts": """
+>>> from firstthere.lottexts import read_lots, write_lots
+>>> [write_lots(((0, 2), (), (1,))), read_lots('2 0/-'), read_lots('  ')]
+['0 2 / - / 1', ((0, 2), ()), ()]
+""",
+    "sized": """
+>>> from firstthere.sized import can_leave, largest_leave, leave_count, sized_loads
+>>> [sized_loads((1, -1), (2, 3), (0,)), can_leave((1, 0), (2, 3), (5, 4), (0,)), largest_leave((1, 0), (2, 3), (5, 4)), leave_count((1, 0), (2, 3), (5, 4))]
+[(0, 5, 0), False, (1, (1,)), 2]
+""",
+    "shapes": """
+>>> from firstthere.shapes import alike, handing_chances_by, most_handings, own_names, shape, told_chance
+>>> [most_handings((1, -1)), shape((1, -1)), alike((1, -1), (-1, 0)), own_names((1, 0)), told_chance((1, -1), (1, 2), ((0, (0, 1, -1)),)), handing_chances_by((1, -1), (1, 2), 0)]
+[(3, (0, 1)), (-1, 0), True, 2, (1, 3), ((0, 1), (2, 3), (1, 3))]
+""",
 }
 
 

@@ -90,6 +90,25 @@ INTERFACE = {
     "dates": {
         "order_by": "dates", "duty_days": "deputies dates", "spans": "deputies dates person",
         "busiest_date": "deputies dates", "out_date": "deputies dates person"},
+    "rates": {
+        "mean_stay": "rates lot", "mean_out_by": "deputies rates person",
+        "mean_hold_by": "deputies rates person other", "load_times": "deputies rates"},
+    "sure": {
+        "least_chain": "deputies", "surest": "deputies", "sure_count": "size many", "fewest_sure": "deputies many",
+        "shows_fewest_sure": "deputies many value", "spread": "deputies many",
+        "both_out": "deputies many one other"},
+    "doubts": {
+        "deputy_chances": "size sights person", "holder_chances": "size sights gone person"},
+    "lottexts": {
+        "write_lots": "lots", "read_lots": "text"},
+    "sized": {
+        "sized_loads": "deputies sizes gone", "can_leave": "deputies sizes limits gone",
+        "shows_largest_leave": "deputies sizes limits value", "largest_leave": "deputies sizes limits",
+        "leave_count": "deputies sizes limits"},
+    "shapes": {
+        "most_handings": "deputies", "shows_most_handings": "deputies value", "alike": "one other",
+        "shape": "deputies", "own_names": "deputies", "told_chance": "deputies weights told",
+        "handing_chances_by": "deputies weights person"},
 }
 
 METHODS = {"leave": "self person", "holders": "self", "gone": "self", "order": "self", "undo": "self"}

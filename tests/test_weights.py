@@ -1,7 +1,5 @@
 """By weights (point 7)."""
 
-import fractions
-import functools
 import itertools
 import unittest
 
@@ -10,36 +8,14 @@ from firstthere.errors import BadCount, BadLot, BadOrder, BadPerson, BadWeights
 from firstthere.weights import (
     ahead_chance, ever_chance_by, hold_chances_by, last_chances, lot_chance, mean_handings_by, order_chance)
 from tests.support import (
-    LARGE, OFFICE, Case, all_but, all_lots, all_orders, as_ratio, few_deputies, rows_in_time, some_deputies,
-    without_repeats)
+    LARGE, OFFICE, Case, all_but, all_lots, all_orders, as_ratio, chance_of_each, chance_that, few_deputies,
+    rows_in_time, some_deputies, without_repeats)
 
 SOME_WEIGHTS = (
     (1,), (60,), (17,), (1, 1), (1, 60), (60, 1), (7, 3), (1, 2, 3), (60, 60, 60), (1, 60, 1), (5, 2, 9),
     (1, 2, 3, 4), (60, 1, 1, 60), (6, 10, 15, 30), (1, 1, 2, 3, 5), (60, 59, 58, 57, 1), (1, 2, 4, 8, 16, 32),
     (60, 1, 7, 7, 12, 31),
 )
-
-
-@functools.lru_cache(maxsize=None)
-def chance_of_each(weights):
-    """The chance of each whole order: one by one, each next one with its part of the weights that are left."""
-    found = {}
-
-    def go_on(order, chance):
-        left = [person for person in range(len(weights)) if person not in order]
-        if not left:
-            found[order] = chance
-        for person in left:
-            part = fractions.Fraction(weights[person], sum(weights[one] for one in left))
-            go_on((*order, person), chance * part)
-
-    go_on((), fractions.Fraction(1))
-    return found
-
-
-def chance_that(weights, holds):
-    """The chance that a whole order is one for which this holds."""
-    return as_ratio(sum((chance for order, chance in chance_of_each(weights).items() if holds(order)), 0))
 
 
 def drawn_by_tickets(weights, order):

@@ -107,6 +107,10 @@ def no_lots():
 
 
 NO_LOTS_IN_ROWS = no_lots()
+# Those that are wrong for six people too.
+NO_LOTS_OF_6_IN_ROWS = tuple((value, index) for value, index in NO_LOTS_IN_ROWS if "3" not in repr(value)) + (
+    (((6,),), 0), (((0, 3), (5, 6)), 1), (((5, 3),), 0), (((0, 1, 2, 3, 4, 5, 6),), 0), (((),) * 29 + ((5, 5),), 29),
+)
 
 
 def no_wanted():
@@ -133,4 +137,7 @@ NO_DATES_ALONE = NO_COSTS[:len(ODD_VALUES)] + (
 )
 NO_TEXTS = tuple(value for value in ODD_VALUES if not isinstance(value, str)) + (
     0, 1, -1, (), ("0>-",), ["0>-"], {"0>-": "0>-"}, {0: "0>-"}, (("0>-",),),
+)
+NO_LIMITS = tuple(value for value in NO_COSTS if "1001" not in repr(value) and "5000" not in repr(value)) + (
+    (6001, 0, 0), (0, 6001, 0), (0, 0, 6001), (0, 10000, 0), (0, 6000), (6000, 6000, 6000, 6000), [6000, 0, 0],
 )
