@@ -6,6 +6,7 @@ import functools
 import itertools
 import unittest
 
+from firstthere.errors import InvalidText
 from tests.wrong import ODD_VALUES
 
 OFFICE = -1
@@ -185,6 +186,14 @@ def first_digit(text, place):
     return place
 
 
+def first_place(text, is_begun):
+    """The first place up to which the text is not the beginning of any allowed one, its length if there is none."""
+    for place in range(len(text)):
+        if not is_begun(text[:place + 1]):
+            return first_digit(text, place)
+    return len(text)
+
+
 class Case(unittest.TestCase):
     def same(self, got, expected):
         """Equal, and of equal kinds: True is not 1, a list is no tuple."""
@@ -200,6 +209,14 @@ class Case(unittest.TestCase):
             self.assertIs(caught.exception.__class__, error)
             self.assertEqual(repr(vars(caught.exception)), repr(fields))
             self.assertEqual(repr(values), repr(before))
+
+    def reads_text(self, call, text, named, place):
+        """The call returns what the text names; it raises the error with the place if that is None."""
+        with self.subTest(text=text):
+            if named is None:
+                self.fails(InvalidText, call, text, place=place)
+            else:
+                self.same(call(text), named)
 
     def shows(self, call, values, good, others=()):
         """The call returns True for the good ones alone: of these, of values near them, of odd and of other ones."""

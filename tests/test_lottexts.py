@@ -6,7 +6,7 @@ import unittest
 
 from firstthere.errors import BadLots, InvalidText, NotText
 from firstthere.lottexts import read_lots, write_lots
-from tests.support import ODD_VALUES, Case, all_lots, changed_texts, first_digit
+from tests.support import ODD_VALUES, Case, all_lots, changed_texts, first_place
 
 NUMBER = "(?<![0-9])[0-5](?![0-9])"
 LOT = f"(?: *{NUMBER})+ *| *- *"
@@ -36,21 +36,12 @@ def named_by(text):
 
 
 def place_of(text):
-    """The first place up to which the text is not the beginning of any text that names lots."""
-    for place in range(len(text)):
-        if not is_begun(text[:place + 1]):
-            return first_digit(text, place)
-    return len(text)
+    return first_place(text, is_begun)
 
 
 class TextCase(Case):
     def reads(self, text):
-        with self.subTest(text=text):
-            named = named_by(text)
-            if named is None:
-                self.fails(InvalidText, read_lots, text, place=place_of(text))
-            else:
-                self.same(read_lots(text), named)
+        self.reads_text(read_lots, text, named_by(text), place_of(text))
 
 
 def some_lots():

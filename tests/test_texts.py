@@ -6,7 +6,7 @@ import unittest
 
 from firstthere.errors import BadDeputies, InvalidText, NotText
 from firstthere.texts import read_deputies, write_deputies
-from tests.support import LARGE, ODD_VALUES, Case, all_deputies, changed_texts, first_digit, few_deputies
+from tests.support import LARGE, ODD_VALUES, Case, all_deputies, changed_texts, few_deputies, first_place
 
 NUMBER = "(?<![0-9])[0-5](?![0-9])"
 PAIR = f"({NUMBER}) *> *({NUMBER}|-)"
@@ -35,22 +35,17 @@ def named_by(text):
     return tuple(named[person] for person in people)
 
 
+def is_begun(text):
+    return pairs_of(text) is not None
+
+
 def place_of(text):
-    """The first place up to which the text is not the beginning of any text that names deputies."""
-    for place in range(len(text)):
-        if pairs_of(text[:place + 1]) is None:
-            return first_digit(text, place)
-    return len(text)
+    return first_place(text, is_begun)
 
 
 class TextCase(Case):
     def reads(self, text):
-        with self.subTest(text=text):
-            named = named_by(text)
-            if named is None:
-                self.fails(InvalidText, read_deputies, text, place=place_of(text))
-            else:
-                self.same(read_deputies(text), named)
+        self.reads_text(read_deputies, text, named_by(text), place_of(text))
 
 
 class WorkedOut(TextCase):
@@ -72,8 +67,9 @@ class WorkedOut(TextCase):
         for text, place in (
                 ("0>1 1>1", 6), ("", 0), (" ", 1), ("     ", 5), ("0", 1), ("0>", 2), ("0 > ", 4), ("0>1", 3),
                 ("1>-", 3), ("0>1 1", 5), ("0>1 1>", 6), ("0>0", 2), ("0 >  0 1>0", 5), ("0>1 0>1", 4), ("0>1 0", 4),
-                ("0>1 0 ", 4), ("0>11>0", 2), ("0>1 01>0", 4), ("0>10", 2), ("0>123 1", 2), ("12>0", 0), ("  00>1", 2), ("6>0", 0),
-                ("0>6", 2), ("0>9 1>-", 2), ("0>- 6>-", 4), (">", 0), ("-", 0), ("0-1", 1), ("0 1", 2), ("0 12", 2),
+                ("0>1 0 ", 4), ("0>11>0", 2), ("0>1 01>0", 4), ("0>10", 2), ("0>123 1", 2), ("12>0", 0),
+                ("  00>1", 2), ("6>0", 0), ("0>6", 2), ("0>9 1>-", 2), ("0>- 6>-", 4), (">", 0), ("-", 0),
+                ("0-1", 1), ("0 1", 2), ("0 12", 2),
                 ("0>>1", 2), ("0>--", 3), ("0>1>0", 3), ("0>1-", 3), ("0>1,1>0", 3), ("0>1\t1>0", 3), ("0>1\n1>0", 3),
                 ("\n0>-", 0), ("0>-\n", 3), ("0 >\u00a0-", 3), ("0>\u0661", 2), ("\u0660>-", 0), ("0>\u00b9 1>-", 2),
                 ("0>1 1>- 2>0x", 11), ("a", 0), ("0>-1", 4), ("0>- 2>-", 7), ("0>5", 3), ("0>- 2>1 ", 8), ("0>-1>", 5),
